@@ -1,0 +1,1 @@
+"""Panelworks: from a drawing to the made thing."""

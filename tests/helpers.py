@@ -1,0 +1,187 @@
+"""What the tests have in common: fractions of Python's own, and ways to look at sketches and loops by themselves."""
+
+from fractions import Fraction
+from math import gcd
+
+# Things that are no fraction, no tuple of anything, no name and no number.
+ODD_THINGS = (None, True, False, 1.5, "x", "", b"a", [], [1, 2], {}, (), (1,), ("a",), (None, None), object())
+
+
+def whole(number):
+    """A whole number as a fraction of the program."""
+    return (number, 1)
+
+
+def pair(number):
+    """A Fraction as a fraction of the program."""
+    number = Fraction(number)
+    return (number.numerator, number.denominator)
+
+
+def plain(one):
+    """A fraction of the program as a Fraction."""
+    return Fraction(one[0], one[1])
+
+
+def point(name, x, y):
+    return (name, pair(x), pair(y))
+
+
+def refusal(case, error, call, *things, **named):
+    """The error that a call raises, of just that class."""
+    with case.assertRaises(error) as held:
+        call(*things, **named)
+    case.assertIs(type(held.exception), error)
+    return held.exception
+
+
+def off(saying, values):
+    """By how much a saying doesn't hold where each coordinate has its value: 0 where it does."""
+    word = saying[0]
+    if word == "at":
+        return values[saying[1], saying[2]] - saying[3]
+    if word == "level":
+        return values[saying[2], saying[3]] - values[saying[1], saying[3]]
+    if word == "apart":
+        return values[saying[2], saying[3]] - values[saying[1], saying[3]] - saying[4]
+    if word == "middle":
+        return 2 * values[saying[2], saying[4]] - values[saying[1], saying[4]] - values[saying[3], saying[4]]
+    _, p, q, axis, r, s, axis2, a, b = saying
+    return b * (values[q, axis] - values[p, axis]) - a * (values[s, axis2] - values[r, axis2])
+
+
+def coordinates(points):
+    return [(one[0], axis) for one in points for axis in "xy"]
+
+
+def values_at(places):
+    found = {}
+    for name, x, y in places:
+        found[name, "x"] = plain(x)
+        found[name, "y"] = plain(y)
+    return found
+
+
+def row(points, saying):
+    """The factors of a saying for each coordinate, found by trying, and its number."""
+    names = coordinates(points)
+    nought = {name: 0 for name in names}
+    number = -off(saying, nought)
+    return [off(saying, {**nought, name: 1}) + number for name in names], number
+
+
+def rank(rows):
+    """How many of the rows aren't sums of others."""
+    rows = [[Fraction(one) for one in line] for line in rows]
+    found = 0
+    for column in range(len(rows[0]) if rows else 0):
+        at = next((k for k in range(found, len(rows)) if rows[k][column]), None)
+        if at is None:
+            continue
+        rows[found], rows[at] = rows[at], rows[found]
+        for k in range(found + 1, len(rows)):
+            by = rows[k][column] / rows[found][column]
+            rows[k] = [one - by * other for one, other in zip(rows[k], rows[found])]
+        found += 1
+    return found
+
+
+def clash_number(points, sayings):
+    """The first saying with which those ahead clash, by ranks."""
+    for many in range(1, len(sayings) + 1):
+        rows = [row(points, saying) for saying in sayings[:many]]
+        if rank([line for line, _ in rows]) != rank([line + [number] for line, number in rows]):
+            return many - 1
+    return None
+
+
+def fraction_from(chance, top=30, bottom=6):
+    return pair(Fraction(chance.randint(-top, top), chance.randint(1, bottom)))
+
+
+def sketch_from(chance, many, sayings, numbers=5):
+    """A sketch by chance: so many points, so many sayings."""
+    names = chance.sample(["a", "b", "c", "d", "e", "f", "g", "h", "abcdefgh", "j", "zz", "l"], many)
+    points = tuple((name, fraction_from(chance), fraction_from(chance)) for name in names)
+    return points, tuple(saying_from(chance, names, numbers) for _ in range(sayings))
+
+
+def saying_from(chance, names, numbers=5):
+    word = chance.choice(["at", "level", "apart", "middle", "as"])
+    p, q, r, s = (chance.choice(names) for _ in range(4))
+    axis, axis2 = (chance.choice("xy") for _ in range(2))
+    number = chance.randint(-numbers, numbers)
+    ratio = chance.randint(1, 4), chance.randint(1, 4)
+    return {
+        "at": ("at", p, axis, number),
+        "level": ("level", p, q, axis),
+        "apart": ("apart", p, q, axis, number),
+        "middle": ("middle", p, q, r, axis),
+        "as": ("as", p, q, axis, r, s, axis2) + ratio,
+    }[word]
+
+
+def spots(*numbers):
+    """A loop of whole numbers: x, y, x, y and so on."""
+    return tuple((whole(x), whole(y)) for x, y in zip(numbers[::2], numbers[1::2]))
+
+
+def rising(chance, many):
+    """So many rising fractions."""
+    found = [Fraction(chance.randint(-6, 6), chance.randint(1, 3))]
+    while len(found) < many:
+        found.append(found[-1] + Fraction(chance.randint(1, 6), chance.randint(1, 4)))
+    return [pair(one) for one in found]
+
+
+def loop_from(chance, wide=4):
+    """A fair loop by chance: (loop, cells, xs, ys), cells being those of a grid that lie within it."""
+    while True:
+        cells = _grown(chance, wide)
+        corners = _walked_round(cells)
+        if corners is not None and len(corners) <= 12:
+            break
+    xs, ys = rising(chance, wide + 1), rising(chance, wide + 1)
+    loop = tuple((xs[x], ys[y]) for x, y in corners)
+    start = chance.randrange(len(loop))
+    loop = loop[start:] + loop[:start]
+    return (loop if chance.random() < 0.5 else loop[::-1]), cells, xs, ys
+
+
+def _grown(chance, wide):
+    cells = {(chance.randrange(wide), chance.randrange(wide))}
+    for _ in range(chance.randint(0, wide * wide)):
+        x, y = chance.choice(sorted(cells))
+        step = chance.choice([(1, 0), (-1, 0), (0, 1), (0, -1)])
+        found = (x + step[0], y + step[1])
+        if 0 <= found[0] < wide and 0 <= found[1] < wide:
+            cells.add(found)
+    return cells
+
+
+def _walked_round(cells):
+    """The corners of the one border of some cells, None where they have holes or meet at corners alone."""
+    follows = {}
+    for x, y in cells:
+        for dx, dy, start, end in ((0, -1, (x, y), (x + 1, y)), (1, 0, (x + 1, y), (x + 1, y + 1)),
+                                   (0, 1, (x + 1, y + 1), (x, y + 1)), (-1, 0, (x, y + 1), (x, y))):
+            if (x + dx, y + dy) not in cells:
+                if start in follows:
+                    return None
+                follows[start] = end
+    first = min(follows)
+    walked = [first]
+    while follows[walked[-1]] != first:
+        walked.append(follows[walked[-1]])
+    if len(walked) != len(follows):
+        return None
+    return [spot for k, spot in enumerate(walked) if not _is_between(walked[k - 1], follows[spot])]
+
+
+def _is_between(before, behind):
+    return before[0] == behind[0] or before[1] == behind[1]
+
+
+def lowest(top, bottom):
+    shared = gcd(top, bottom)
+    return (top // shared, bottom // shared)
