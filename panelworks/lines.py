@@ -24,8 +24,6 @@ class Lines:
         pivot = self.first_of(line)
         if pivot is None:
             return False
-        if line[pivot] < 0:
-            line = [-one for one in line]
         kept = [(place, cleared(other, line, pivot)) for place, other in self.kept]
         kept.append((pivot, line))
         self.kept = kept
@@ -58,8 +56,6 @@ def _without_divisor(line):
     shared = 0
     for one in line:
         shared = gcd(shared, one)
-        if shared == 1:
-            return line
-    if shared == 0:
+    if shared < 2:
         return line
     return [one // shared for one in line]

@@ -16,9 +16,11 @@ def need_loop(loop):
         raise BadOutline(None)
     edges = plain_edges(loop)
     need_turning(edges)
-    meeting = first_meeting([box_of(edge) for edge in edges])
-    if meeting is not None:
-        raise BadOutline(meeting[0])
+    boxes = [box_of(edge) for edge in edges]
+    for number in range(len(edges)):
+        for other in range(number + 1, len(edges)):
+            if not are_neighbours(number, other, len(edges)) and have_common(boxes[number], boxes[other]):
+                raise BadOutline(number)
     return loop
 
 
@@ -137,34 +139,18 @@ def are_neighbours(one, other, many):
     return (one - other) % many in (0, 1, many - 1)
 
 
-def first_meeting(boxes):
-    """The first two edges, by their boxes, that are no neighbours and have a spot in common, and the least such spot.
-
-    None without two such.
-    """
-    for one in range(len(boxes)):
-        for other in range(one + 1, len(boxes)):
-            if not are_neighbours(one, other, len(boxes)):
-                spot = _least_common(boxes[one], boxes[other])
-                if spot is not None:
-                    return (one, other, spot)
-    return None
-
-
 def box_of(edge):
     """The least and the greatest x of an edge, and the least and the greatest y."""
     _, start, end = edge
     return (range_of([start[0], end[0]]), range_of([start[1], end[1]]))
 
 
-def _least_common(box, other):
-    """The least spot that two boxes have in common, their sides belonging to them; None without one."""
-    spot = []
+def have_common(box, other):
+    """Whether two boxes have a spot in common, their sides belonging to them."""
     for (low, high), (other_low, other_high) in zip(box, other):
         if is_under(high, other_low) or is_under(other_high, low):
-            return None
-        spot.append(other_low if is_under(low, other_low) else low)
-    return (spot[0], spot[1])
+            return False
+    return True
 
 
 def _may_be_ring(many):

@@ -29,7 +29,7 @@ def check_side(loop, spot, paper):
     found = first_edge_with(edges, spot)
     word, told = paper
     if word == "edge":
-        if found is None or told != found:
+        if told != found:
             raise BadPaper(0)
         return "edge"
     if found is not None:

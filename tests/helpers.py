@@ -163,8 +163,12 @@ def _walked_round(cells):
     """The corners of the one border of some cells, None where they have holes or meet at corners alone."""
     follows = {}
     for x, y in cells:
-        for dx, dy, start, end in ((0, -1, (x, y), (x + 1, y)), (1, 0, (x + 1, y), (x + 1, y + 1)),
-                                   (0, 1, (x + 1, y + 1), (x, y + 1)), (-1, 0, (x, y + 1), (x, y))):
+        for dx, dy, start, end in (
+            (0, -1, (x, y), (x + 1, y)),
+            (1, 0, (x + 1, y), (x + 1, y + 1)),
+            (0, 1, (x + 1, y + 1), (x, y + 1)),
+            (-1, 0, (x, y + 1), (x, y)),
+        ):
             if (x + dx, y + dy) not in cells:
                 if start in follows:
                     return None

@@ -4,17 +4,42 @@ import unittest
 from panelworks import errors
 
 FIELDS = {
-    "BadRow": ("row", "word"), "BadSketch": ("part", "number"), "BadBlock": ("place",), "BadOutline": ("number",),
-    "BadFeature": ("number",), "BadField": ("place",), "BadTools": ("number",), "BadWay": ("number",),
-    "BadPaper": ("place",), "Clash": ("number",), "NoPoint": ("name",), "NoSaying": ("number",),
-    "NoFeature": ("number",), "NoTool": ("tool",), "Beyond": ("place",), "Blocked": ("place",),
+    "BadRow": ("row", "word"),
+    "BadSketch": ("part", "number"),
+    "BadBlock": ("place",),
+    "BadOutline": ("number",),
+    "BadFeature": ("number",),
+    "BadField": ("place",),
+    "BadTools": ("number",),
+    "BadWay": ("number",),
+    "BadPaper": ("place",),
+    "Clash": ("number",),
+    "NoPoint": ("name",),
+    "NoSaying": ("number",),
+    "NoFeature": ("number",),
+    "NoTool": ("tool",),
+    "Beyond": ("place",),
+    "Blocked": ("place",),
     "TooDeep": ("place",),
 }
 MAY_BE_LEFT_OUT = ("BadSketch", "BadBlock", "BadOutline", "BadFeature", "BadField", "BadTools", "BadWay", "BadPaper")
 OF_A_TEXT = ("Twice", "OutOfPlace", "TooGreat", "Nothing", "NoToolThere", "Lifted", "Lowered")
 UNDER = {
-    "WorksError": ("BadRow", "BadSketch", "BadBlock", "BadOutline", "BadFeature", "BadField", "BadTools", "BadWay",
-                   "BadPaper", "Clash", "Twice", "OutOfPlace", "TooGreat"),
+    "WorksError": (
+        "BadRow",
+        "BadSketch",
+        "BadBlock",
+        "BadOutline",
+        "BadFeature",
+        "BadField",
+        "BadTools",
+        "BadWay",
+        "BadPaper",
+        "Clash",
+        "Twice",
+        "OutOfPlace",
+        "TooGreat",
+    ),
     "MissError": ("NoPoint", "NoSaying", "NoFeature", "NoTool", "Nothing"),
     "FaultError": ("NoToolThere", "Lifted", "Lowered", "Beyond", "Blocked", "TooDeep"),
 }

@@ -4,13 +4,29 @@ import unittest
 from panelworks.errors import BadSketch, Clash, OutOfPlace
 from panelworks.following import fixed_at, free_ways, word_beside
 
-from tests.helpers import (ODD_THINGS, clash_number, coordinates, pair, point, rank, refusal, row, saying_from, sketch_from)
+from tests.helpers import (
+    ODD_THINGS,
+    clash_number,
+    coordinates,
+    plain,
+    point,
+    rank,
+    refusal,
+    row,
+    saying_from,
+    sketch_from,
+)
 
 A = point("a", 0, 0)
 B = point("b", 4, 1)
 C = point("c", 1, "1/3")
 ABC = (A, B, C)
-SAYINGS = (("at", "a", "x", 3), ("apart", "a", "b", "x", 4), ("as", "b", "c", "x", "a", "b", "x", 1, 3), ("level", "a", "c", "y"))
+SAYINGS = (
+    ("at", "a", "x", 3),
+    ("apart", "a", "b", "x", 4),
+    ("as", "b", "c", "x", "a", "b", "x", 1, 3),
+    ("level", "a", "c", "y"),
+)
 CLASH = SAYINGS + (("at", "b", "x", 8), ("at", "c", "y", 1))
 AT_CLASH = 4
 
@@ -27,12 +43,22 @@ def word_by_ranks(points, sayings, saying):
 class Words(unittest.TestCase):
     def test_told(self):
         told = (
-            (("at", "a", "x", 3), "follows"), (("at", "b", "x", 7), "follows"), (("at", "a", "x", 4), "clashes"),
-            (("apart", "b", "a", "x", -4), "follows"), (("apart", "a", "b", "x", 5), "clashes"), (("level", "a", "b", "x"), "clashes"),
-            (("level", "c", "a", "y"), "follows"), (("apart", "a", "c", "y", 1), "clashes"), (("at", "a", "y", 0), "free"),
-            (("level", "a", "b", "y"), "free"), (("level", "a", "a", "y"), "follows"), (("apart", "a", "a", "y", 1), "clashes"),
-            (("as", "b", "c", "x", "a", "b", "x", 2, 6), "follows"), (("as", "a", "c", "y", "a", "b", "y", 1, 1), "free"),
-            (("as", "a", "c", "y", "a", "b", "x", 1, 1), "clashes"), (("middle", "a", "b", "c", "x"), "clashes"),
+            (("at", "a", "x", 3), "follows"),
+            (("at", "b", "x", 7), "follows"),
+            (("at", "a", "x", 4), "clashes"),
+            (("apart", "b", "a", "x", -4), "follows"),
+            (("apart", "a", "b", "x", 5), "clashes"),
+            (("level", "a", "b", "x"), "clashes"),
+            (("level", "c", "a", "y"), "follows"),
+            (("apart", "a", "c", "y", 1), "clashes"),
+            (("at", "a", "y", 0), "free"),
+            (("level", "a", "b", "y"), "free"),
+            (("level", "a", "a", "y"), "follows"),
+            (("apart", "a", "a", "y", 1), "clashes"),
+            (("as", "b", "c", "x", "a", "b", "x", 2, 6), "follows"),
+            (("as", "a", "c", "y", "a", "b", "y", 1, 1), "free"),
+            (("as", "a", "c", "y", "a", "b", "x", 1, 1), "clashes"),
+            (("middle", "a", "b", "c", "x"), "clashes"),
         )
         for saying, word in told:
             self.assertEqual(word_beside(ABC, SAYINGS, saying), word, saying)
@@ -40,8 +66,12 @@ class Words(unittest.TestCase):
         self.assertEqual(word_beside(points=ABC, sayings=(), saying=("at", "a", "x", 3)), "free")
 
     def test_beside_none(self):
-        for saying, word in ((("at", "a", "x", 3), "free"), (("level", "a", "a", "x"), "follows"), (("apart", "a", "a", "x", 2), "clashes"),
-                             (("apart", "a", "a", "x", 0), "follows")):
+        for saying, word in (
+            (("at", "a", "x", 3), "free"),
+            (("level", "a", "a", "x"), "follows"),
+            (("apart", "a", "a", "x", 2), "clashes"),
+            (("apart", "a", "a", "x", 0), "follows"),
+        ):
             self.assertEqual(word_beside(ABC, (), saying), word)
 
     def test_beside_twenty(self):
@@ -69,7 +99,14 @@ class Words(unittest.TestCase):
 
 class Fixed(unittest.TestCase):
     def test_told(self):
-        told = (("a", "x", (3, 1)), ("b", "x", (7, 1)), ("c", "x", (25, 3)), ("a", "y", None), ("b", "y", None), ("c", "y", None))
+        told = (
+            ("a", "x", (3, 1)),
+            ("b", "x", (7, 1)),
+            ("c", "x", (25, 3)),
+            ("a", "y", None),
+            ("b", "y", None),
+            ("c", "y", None),
+        )
         for name, axis, found in told:
             self.assertEqual(fixed_at(ABC, SAYINGS, name, axis), found)
         self.assertIsNone(fixed_at(points=ABC, sayings=(), name="a", axis="x"))
@@ -96,7 +133,7 @@ class Fixed(unittest.TestCase):
                 if found is not None:
                     fixed += 1
                     both = [line + [row(points, one)[1]] for line, one in zip(lines, sayings)]
-                    self.assertEqual(rank(both + [unit + [found[0]]] if found[1] == 1 else both), rank(both))
+                    self.assertEqual(rank(both + [unit + [plain(found)]]), rank(both))
         self.assertGreater(fixed, 50)
 
 
@@ -126,12 +163,22 @@ class Refused(unittest.TestCase):
             self.assertEqual((found.part, found.number), ("sayings", 6))
 
     def test_clash_ahead_of_what_is_asked_for(self):
-        for call, things in ((word_beside, (None,)), (word_beside, (("at", "a", "x", 3),)), (fixed_at, (None, None)),
-                             (fixed_at, ("a", "x")), (free_ways, ())):
+        for call, things in (
+            (word_beside, (None,)),
+            (word_beside, (("at", "a", "x", 3),)),
+            (fixed_at, (None, None)),
+            (fixed_at, ("a", "x")),
+            (free_ways, ()),
+        ):
             self.assertEqual(refusal(self, Clash, call, ABC, CLASH, *things).number, AT_CLASH)
 
     def test_out_of_place(self):
-        for thing in ODD_THINGS + (("at", "d", "x", 3), ("at", "a", "x", 1000), ["at", "a", "x", 3], ("at", "a", "z", 3)):
+        for thing in ODD_THINGS + (
+            ("at", "d", "x", 3),
+            ("at", "a", "x", 1000),
+            ["at", "a", "x", 3],
+            ("at", "a", "z", 3),
+        ):
             refusal(self, OutOfPlace, word_beside, ABC, SAYINGS, thing)
         for thing in ODD_THINGS + ("d", "A", ("a", "x")):
             refusal(self, OutOfPlace, fixed_at, ABC, SAYINGS, thing, "x")

@@ -7,20 +7,51 @@ from pathlib import Path
 
 ROOT = Path(__file__).resolve().parent.parent / "panelworks"
 FILES = sorted(ROOT.rglob("*.py"))
-LIBRARY = {"heapq": {"heappush", "heappop", "heapify", "heapreplace", "heappushpop"},
-           "math": {"gcd", "lcm", "isqrt", "comb", "perm", "factorial"},
-           "itertools": {"product", "combinations", "permutations", "chain", "accumulate", "pairwise", "islice", "zip_longest"},
-           "collections": {"defaultdict"}}
-BUILTINS = set("""len range enumerate zip min max sum abs sorted reversed int str bool list tuple dict set isinstance ord repr
-any all divmod ValueError LookupError RuntimeError KeyError ZeroDivisionError NotImplemented""".split())
-METHODS = set("""append clear copy count endswith extend find get index insert isalnum isalpha isdigit islower isspace isupper
-items join keys ljust lower lstrip partition pop remove replace reverse rfind rjust rpartition rsplit rstrip setdefault split
-splitlines startswith strip update upper values zfill bit_length""".split())
+LIBRARY = {
+    "heapq": {"heappush", "heappop", "heapify", "heapreplace", "heappushpop"},
+    "math": {"gcd", "lcm", "isqrt", "comb", "perm", "factorial"},
+    "itertools": {
+        "product",
+        "combinations",
+        "permutations",
+        "chain",
+        "accumulate",
+        "pairwise",
+        "islice",
+        "zip_longest",
+    },
+    "collections": {"defaultdict"},
+}
+BUILTINS = set(
+    """len range enumerate zip min max sum abs sorted reversed int str bool list tuple dict set isinstance ord repr
+any all divmod ValueError LookupError RuntimeError KeyError ZeroDivisionError NotImplemented""".split()
+)
+METHODS = set(
+    """append clear copy count endswith extend find get index insert isalnum isalpha isdigit islower isspace isupper
+items join keys ljust lower lstrip partition pop remove replace reverse rfind rjust rpartition rsplit rstrip
+setdefault split splitlines startswith strip update upper values zfill bit_length""".split()
+)
 DUNDERS = {"__init__", "__eq__", "__len__", "__str__", "__name__", "__main__"}
-WORDS = set("""type typing typing_extensions enum Enum IntEnum StrEnum Flag IntFlag Generic Protocol ABC ABCMeta namedtuple
-NamedTuple TypedDict TYPE_CHECKING abstractmethod""".split())
-STATEMENTS = (ast.Global, ast.AsyncFunctionDef, ast.GeneratorExp, ast.Set, ast.Starred, ast.Yield, ast.YieldFrom, ast.Div, ast.AnnAssign,
-              ast.NamedExpr, ast.Await, ast.Delete, ast.Nonlocal, ast.With)
+WORDS = set(
+    """type typing typing_extensions enum Enum IntEnum StrEnum Flag IntFlag Generic Protocol ABC ABCMeta namedtuple
+NamedTuple TypedDict TYPE_CHECKING abstractmethod""".split()
+)
+STATEMENTS = (
+    ast.Global,
+    ast.AsyncFunctionDef,
+    ast.GeneratorExp,
+    ast.Set,
+    ast.Starred,
+    ast.Yield,
+    ast.YieldFrom,
+    ast.Div,
+    ast.AnnAssign,
+    ast.NamedExpr,
+    ast.Await,
+    ast.Delete,
+    ast.Nonlocal,
+    ast.With,
+)
 
 
 def trees():
@@ -57,7 +88,9 @@ def local_names(function):
 class Form(unittest.TestCase):
     def test_files(self):
         self.assertLessEqual(len(FILES), 100)
-        self.assertEqual({file.suffix for file in ROOT.rglob("*") if file.is_file() and "__pycache__" not in file.parts}, {".py"})
+        self.assertEqual(
+            {file.suffix for file in ROOT.rglob("*") if file.is_file() and "__pycache__" not in file.parts}, {".py"}
+        )
         for file in FILES:
             text = file.read_text(encoding="ascii")
             self.assertTrue(all(sign == "\n" or " " <= sign <= "~" for sign in text), file)
@@ -107,8 +140,11 @@ class Form(unittest.TestCase):
     def test_no_two_files_import_from_each_other(self):
         needs = {}
         for file, tree in trees():
-            needs[file.stem] = {node.module.partition(".")[2] for node in tree.body
-                                if isinstance(node, ast.ImportFrom) and node.module not in LIBRARY}
+            needs[file.stem] = {
+                node.module.partition(".")[2]
+                for node in tree.body
+                if isinstance(node, ast.ImportFrom) and node.module not in LIBRARY
+            }
         done = set()
         while len(done) < len(needs):
             free = {name for name in needs if name not in done and needs[name] <= done}
@@ -176,6 +212,7 @@ class Form(unittest.TestCase):
 
     def test_handlers_catch_own_errors(self):
         import panelworks.errors as errors
+
         for file, tree in trees():
             for node in ast.walk(tree):
                 if isinstance(node, ast.ExceptHandler):

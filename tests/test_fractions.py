@@ -5,12 +5,29 @@ from math import floor
 
 from panelworks import fractions
 from panelworks.errors import OutOfPlace
-from panelworks.fractions import (NOUGHT, compared, floor_of, fraction, fraction_text, in_order, is_fraction, is_under,
-                                  less, mean, middles, over, plus, range_of, read_fraction, times, total)
+from panelworks.fractions import (
+    NOUGHT,
+    compared,
+    floor_of,
+    fraction,
+    fraction_text,
+    in_order,
+    is_fraction,
+    is_under,
+    less,
+    mean,
+    middles,
+    over,
+    plus,
+    range_of,
+    read_fraction,
+    times,
+    total,
+)
 
 from tests.helpers import ODD_THINGS, pair, plain, refusal
 
-GREAT = 10 ** 40 + 7
+GREAT = 10**40 + 7
 
 
 def some_fractions():
@@ -29,8 +46,30 @@ class Forms(unittest.TestCase):
     def test_is_fraction(self):
         for thing in ((0, 1), (5, 1), (-5, 1), (1, 2), (-3, 4), (GREAT, 3), (4, 9)):
             self.assertIs(is_fraction(thing), True, thing)
-        wrong = ((0, 2), (2, 4), (-2, 4), (1, 0), (0, 0), (1, -2), (3, -1), (1, 2, 3), (1,), [1, 2], (True, 1), (1, True),
-                 (1.0, 2), (1, 2.0), ("1", "2"), (None, 1), (1, None), "12", 1, Fraction(1, 2), ((1, 2), 1), (False, 1))
+        wrong = (
+            (0, 2),
+            (2, 4),
+            (-2, 4),
+            (1, 0),
+            (0, 0),
+            (1, -2),
+            (3, -1),
+            (1, 2, 3),
+            (1,),
+            [1, 2],
+            (True, 1),
+            (1, True),
+            (1.0, 2),
+            (1, 2.0),
+            ("1", "2"),
+            (None, 1),
+            (1, None),
+            "12",
+            1,
+            Fraction(1, 2),
+            ((1, 2), 1),
+            (False, 1),
+        )
         for thing in wrong + ODD_THINGS:
             self.assertIs(is_fraction(thing), False, thing)
 
@@ -50,15 +89,38 @@ class Forms(unittest.TestCase):
                 call()
 
     def test_fraction(self):
-        told = (((6, 4), (3, 2)), ((-6, 4), (-3, 2)), ((6, -4), (-3, 2)), ((-6, -4), (3, 2)), ((0, 7), (0, 1)),
-                ((0, -7), (0, 1)), ((5,), (5, 1)), ((-5,), (-5, 1)), ((0,), (0, 1)), ((7, 7), (1, 1)))
+        told = (
+            ((6, 4), (3, 2)),
+            ((-6, 4), (-3, 2)),
+            ((6, -4), (-3, 2)),
+            ((-6, -4), (3, 2)),
+            ((0, 7), (0, 1)),
+            ((0, -7), (0, 1)),
+            ((5,), (5, 1)),
+            ((-5,), (-5, 1)),
+            ((0,), (0, 1)),
+            ((7, 7), (1, 1)),
+        )
         for things, found in told:
             self.assertEqual(fraction(*things), found)
         self.assertEqual(fraction(top=2, bottom=-6), (-1, 3))
 
     def test_fraction_refused(self):
-        for things in ((1, 0), (0, 0), (True, 1), (1, True), (1, False), (1.5,), (1, 2.0), ("1", 2), (1, "2"), (None,), (1, None),
-                       ((1, 2), 1), ([], 1)):
+        for things in (
+            (1, 0),
+            (0, 0),
+            (True, 1),
+            (1, True),
+            (1, False),
+            (1.5,),
+            (1, 2.0),
+            ("1", 2),
+            (1, "2"),
+            (None,),
+            (1, None),
+            ((1, 2), 1),
+            ([], 1),
+        ):
             refusal(self, OutOfPlace, fraction, *things)
         for thing in ODD_THINGS:
             refusal(self, OutOfPlace, fraction, thing)
@@ -99,7 +161,15 @@ class Reckoning(unittest.TestCase):
 
     def test_names_of_arguments(self):
         one, other = (1, 2), (1, 3)
-        told = ((plus, (5, 6)), (less, (1, 6)), (times, (1, 6)), (over, (3, 2)), (mean, (5, 12)), (compared, 1), (is_under, False))
+        told = (
+            (plus, (5, 6)),
+            (less, (1, 6)),
+            (times, (1, 6)),
+            (over, (3, 2)),
+            (mean, (5, 12)),
+            (compared, 1),
+            (is_under, False),
+        )
         for call, found in told:
             self.assertEqual(call(one=one, other=other), found)
         self.assertEqual(floor_of(one=one), 0)
@@ -131,7 +201,9 @@ class Rows(unittest.TestCase):
         all_of = some_fractions() * 2
         random.Random(3).shuffle(all_of)
         self.assertEqual(in_order([pair(one) for one in all_of]), tuple(pair(one) for one in sorted(set(all_of))))
-        self.assertEqual(in_order([pair(one) for one in all_of], twice=True), tuple(pair(one) for one in sorted(all_of)))
+        self.assertEqual(
+            in_order([pair(one) for one in all_of], twice=True), tuple(pair(one) for one in sorted(all_of))
+        )
         self.assertEqual(in_order(((1, 2), (1, 3), (1, 2))), ((1, 3), (1, 2)))
         self.assertEqual(in_order(((1, 2), (1, 3), (1, 2)), twice=False), ((1, 3), (1, 2)))
         self.assertEqual(in_order([(1, 2), (1, 3), (1, 2)], twice=True), ((1, 3), (1, 2), (1, 2)))
@@ -143,7 +215,9 @@ class Rows(unittest.TestCase):
             self.assertEqual(middles(kind([(5, 1)])), ())
             self.assertEqual(middles(kind()), ())
         row = [pair(one) for one in sorted(some_fractions())]
-        self.assertEqual(middles(row), tuple(pair((plain(one) + plain(other)) / 2) for one, other in zip(row, row[1:])))
+        self.assertEqual(
+            middles(row), tuple(pair((plain(one) + plain(other)) / 2) for one, other in zip(row, row[1:]))
+        )
 
     def test_rows_stay_as_they_are(self):
         row = [(3, 1), (1, 2), (1, 2), (-1, 1)]
@@ -157,7 +231,14 @@ class Rows(unittest.TestCase):
 
 class Texts(unittest.TestCase):
     def test_text(self):
-        told = (((0, 1), "0"), ((5, 1), "5"), ((-5, 1), "-5"), ((1, 2), "1/2"), ((-3, 4), "-3/4"), ((GREAT, 3), f"{GREAT}/3"))
+        told = (
+            ((0, 1), "0"),
+            ((5, 1), "5"),
+            ((-5, 1), "-5"),
+            ((1, 2), "1/2"),
+            ((-3, 4), "-3/4"),
+            ((GREAT, 3), f"{GREAT}/3"),
+        )
         for one, text in told:
             self.assertEqual(fraction_text(one), text)
 
@@ -168,9 +249,53 @@ class Texts(unittest.TestCase):
                 self.assertEqual(read_fraction(fraction_text(one)), one)
 
     def test_what_tells_none(self):
-        wrong = ("", "-", "/", "1/", "/2", "-/2", "-0", "-0/2", "0/2", "0/1", "1/1", "5/1", "1/0", "0/0", "2/4", "-6/3", "01", "-01",
-                 "1/02", "00", "1/00", "10000", "-10000", "1/10000", "10000/3", "+1", "1/-2", "1/+2", "--1", " 1", "1 ", "1 /2",
-                 "1/ 2", "1/2/3", "1//2", "1.5", "x", "1/x", "x/2", "1\n", "\n1", "1/2\n", "1,2", "\u0661", "1/\u0662")
+        wrong = (
+            "",
+            "-",
+            "/",
+            "1/",
+            "/2",
+            "-/2",
+            "-0",
+            "-0/2",
+            "0/2",
+            "0/1",
+            "1/1",
+            "5/1",
+            "1/0",
+            "0/0",
+            "2/4",
+            "-6/3",
+            "01",
+            "-01",
+            "1/02",
+            "00",
+            "1/00",
+            "10000",
+            "-10000",
+            "1/10000",
+            "10000/3",
+            "+1",
+            "1/-2",
+            "1/+2",
+            "--1",
+            " 1",
+            "1 ",
+            "1 /2",
+            "1/ 2",
+            "1/2/3",
+            "1//2",
+            "1.5",
+            "x",
+            "1/x",
+            "x/2",
+            "1\n",
+            "\n1",
+            "1/2\n",
+            "1,2",
+            "\u0661",
+            "1/\u0662",
+        )
         for word in wrong + ODD_THINGS + (1, (1, 2)):
             self.assertIsNone(read_fraction(word), word)
 

@@ -96,7 +96,9 @@ class Grid:
             group, new = set(), {min(left)}
             while new:
                 group |= new
-                new = {(x + dx, y + dy) for x, y in new for dx, dy in ((1, 0), (-1, 0), (0, 1), (0, -1))} & left - group
+                new = {
+                    (x + dx, y + dy) for x, y in new for dx, dy in ((1, 0), (-1, 0), (0, 1), (0, -1))
+                } & left - group
             found.append(group)
             left -= group
         return found
@@ -116,7 +118,9 @@ class ByCells(unittest.TestCase):
             self.assertEqual(ground.area(), grid.area(cells))
             self.assertEqual(ground.border(), grid.border(cells))
             self.assertEqual(ground.corner(), grid.corner(cells))
-            self.assertEqual([island.slabs() for island in ground.islands()], [grid.slabs(group) for group in grid.islands(cells)])
+            self.assertEqual(
+                [island.slabs() for island in ground.islands()], [grid.slabs(group) for group in grid.islands(cells)]
+            )
 
     def test_of_two(self):
         chance = random.Random(82)
@@ -167,7 +171,9 @@ class ByCells(unittest.TestCase):
             chance.shuffle(mixed)
             others = [Ground(tuple(mixed)), Ground(rectangles[::-1])]
             if len(cells) <= 40:
-                others.append(Ground(tuple((grid.xs[x], grid.ys[y], grid.xs[x + 1], grid.ys[y + 1]) for x, y in sorted(cells))))
+                others.append(
+                    Ground(tuple((grid.xs[x], grid.ys[y], grid.xs[x + 1], grid.ys[y + 1]) for x, y in sorted(cells)))
+                )
             if len(ground) <= 40:
                 others.append(Ground(ground.rectangles()))
             for other in others:
@@ -192,14 +198,23 @@ class Told(unittest.TestCase):
     def test_empty(self):
         self.assertEqual(Ground(()), EMPTY)
         self.assertEqual((EMPTY.slabs(), EMPTY.rectangles(), len(EMPTY), str(EMPTY)), ((), (), 0, ""))
-        self.assertEqual((EMPTY.area(), EMPTY.border(), EMPTY.corner(), EMPTY.islands()), (whole(0), whole(0), None, []))
+        self.assertEqual(
+            (EMPTY.area(), EMPTY.border(), EMPTY.corner(), EMPTY.islands()), (whole(0), whole(0), None, [])
+        )
         self.assertIs(EMPTY.has((whole(0), whole(0))), False)
         self.assertIs(EMPTY.is_within(EMPTY), True)
         self.assertIs(EMPTY.is_within(UNIT), True)
         self.assertIs(UNIT.is_within(EMPTY), False)
         self.assertIsNone(EMPTY.breach(EMPTY))
         self.assertEqual(UNIT.breach(EMPTY), (whole(0), whole(0)))
-        for one in (EMPTY.either(EMPTY), EMPTY.both(UNIT), EMPTY.less(UNIT), UNIT.both(EMPTY), UNIT.less(UNIT), EMPTY.moved((whole(1), whole(1)))):
+        for one in (
+            EMPTY.either(EMPTY),
+            EMPTY.both(UNIT),
+            EMPTY.less(UNIT),
+            UNIT.both(EMPTY),
+            UNIT.less(UNIT),
+            EMPTY.moved((whole(1), whole(1))),
+        ):
             self.assertEqual(one, EMPTY)
         self.assertEqual(EMPTY.either(UNIT), UNIT)
 
@@ -207,9 +222,15 @@ class Told(unittest.TestCase):
         told = (
             ((box(0, 0, 1, 1), box(1, 0, 2, 1)), ((whole(0), whole(2), (box(0, 1),)),)),
             ((box(0, 0, 1, 1), box(0, 1, 1, 2)), ((whole(0), whole(1), (box(0, 2),)),)),
-            ((box(0, 0, 1, 1), box(1, 1, 2, 2)), ((whole(0), whole(1), (box(0, 1),)), (whole(1), whole(2), (box(1, 2),)))),
+            (
+                (box(0, 0, 1, 1), box(1, 1, 2, 2)),
+                ((whole(0), whole(1), (box(0, 1),)), (whole(1), whole(2), (box(1, 2),))),
+            ),
             ((box(0, 0, 1, 1), box(0, 2, 1, 3)), ((whole(0), whole(1), (box(0, 1), box(2, 3))),)),
-            ((box(0, 0, 1, 1), box(2, 0, 3, 1)), ((whole(0), whole(1), (box(0, 1),)), (whole(2), whole(3), (box(0, 1),)))),
+            (
+                (box(0, 0, 1, 1), box(2, 0, 3, 1)),
+                ((whole(0), whole(1), (box(0, 1),)), (whole(2), whole(3), (box(0, 1),))),
+            ),
             ((box(0, 0, 3, 3), box(1, 1, 2, 2)), ((whole(0), whole(3), (box(0, 3),)),)),
             ((box(0, 0, "1/2", 1), box("1/3", 0, 1, 1)), ((whole(0), whole(1), (box(0, 1),)),)),
         )
@@ -219,8 +240,18 @@ class Told(unittest.TestCase):
                 self.assertEqual(Ground(rectangles=one).slabs(), slabs)
 
     def test_has_at_its_borders(self):
-        for x, y, wanted in ((0, 0, True), (1, 0, False), (0, 1, False), (1, 1, False), ("1/2", 0, True), (0, "1/2", True),
-                             ("1/2", 1, False), (1, "1/2", False), ("99/100", "99/100", True), ("-1/100", 0, False)):
+        for x, y, wanted in (
+            (0, 0, True),
+            (1, 0, False),
+            (0, 1, False),
+            (1, 1, False),
+            ("1/2", 0, True),
+            (0, "1/2", True),
+            ("1/2", 1, False),
+            (1, "1/2", False),
+            ("99/100", "99/100", True),
+            ("-1/100", 0, False),
+        ):
             self.assertIs(UNIT.has((pair(x), pair(y))), wanted)
         self.assertIs(UNIT.has(spot=(whole(0), whole(0))), True)
 
@@ -254,8 +285,10 @@ class Told(unittest.TestCase):
     def test_islands_are_told_in_one_way(self):
         # Each island by itself has fewer lines than both together.
         ground = Ground((box(0, 0, 4, 1), box(1, 2, 3, 3)))
-        self.assertEqual([one.slabs() for one in ground.islands()],
-                         [((whole(0), whole(4), (box(0, 1),)),), ((whole(1), whole(3), (box(2, 3),)),)])
+        self.assertEqual(
+            [one.slabs() for one in ground.islands()],
+            [((whole(0), whole(4), (box(0, 1),)),), ((whole(1), whole(3), (box(2, 3),)),)],
+        )
 
     def test_more_runs_than_rectangles_to_make_it(self):
         comb = Ground(tuple(box(k, 0, k + Fraction(1, 2), 40) for k in range(40)))
@@ -308,7 +341,9 @@ class Loops(unittest.TestCase):
         for loop in ODD_THINGS + (spots(0, 0, 1, 0, 1, 1),):
             self.assertIsNone(refusal(self, BadOutline, ground_of, loop).number)
         self.assertEqual(refusal(self, BadOutline, ground_of, spots(0, 0, 1, 0, 2, 0, 2, 1)).number, 1)
-        self.assertEqual(refusal(self, BadOutline, ground_of, spots(0, 0, 2, 0, 2, 2, 4, 2, 4, 4, 2, 4, 2, 2, 0, 2)).number, 1)
+        self.assertEqual(
+            refusal(self, BadOutline, ground_of, spots(0, 0, 2, 0, 2, 2, 4, 2, 4, 4, 2, 4, 2, 2, 0, 2)).number, 1
+        )
 
 
 class Alone(unittest.TestCase):
@@ -320,7 +355,9 @@ class Alone(unittest.TestCase):
             one.islands().clear()
             self.assertEqual((one.slabs(), other.slabs()), ahead)
             self.assertEqual(len(one.islands()), 1)
-            self.assertEqual(made, (one.either(other), one.both(other), one.less(other), one.moved((whole(1), whole(1)))))
+            self.assertEqual(
+                made, (one.either(other), one.both(other), one.less(other), one.moved((whole(1), whole(1))))
+            )
 
     def test_with_itself(self):
         one = Ground(RIM)
@@ -334,8 +371,19 @@ class Refused(unittest.TestCase):
         self.assertEqual(Ground(row[:40]), Ground((box(0, 0, 40, 1),)))
         refusal(self, OutOfPlace, Ground, row)
         good = box(0, 0, 1, 1)
-        wrong = (box(0, 0, 0, 1), box(0, 0, 1, 0), box(1, 0, 0, 1), box(0, 1, 1, 0), good[:3], good + good[:1], list(good), (0, 0, 1, 1),
-                 good[:3] + ((2, 2),), good[:3] + (None,), good[:3] + ((True, 1),))
+        wrong = (
+            box(0, 0, 0, 1),
+            box(0, 0, 1, 0),
+            box(1, 0, 0, 1),
+            box(0, 1, 1, 0),
+            good[:3],
+            good + good[:1],
+            list(good),
+            (0, 0, 1, 1),
+            good[:3] + ((2, 2),),
+            good[:3] + (None,),
+            good[:3] + ((True, 1),),
+        )
         for thing in wrong + ODD_THINGS:
             refusal(self, OutOfPlace, Ground, (thing,))
             refusal(self, OutOfPlace, Ground, (good, thing, good))
@@ -350,7 +398,14 @@ class Refused(unittest.TestCase):
                     refusal(self, OutOfPlace, call, thing)
 
     def test_no_spot(self):
-        wrong = ((0, 0), (whole(0),), (whole(0), whole(0), whole(0)), [whole(0), whole(0)], (whole(0), (2, 2)), (whole(0), 0))
+        wrong = (
+            (0, 0),
+            (whole(0),),
+            (whole(0), whole(0), whole(0)),
+            [whole(0), whole(0)],
+            (whole(0), (2, 2)),
+            (whole(0), 0),
+        )
         for thing in wrong + ODD_THINGS:
             for one in (UNIT, EMPTY):
                 refusal(self, OutOfPlace, one.has, thing)

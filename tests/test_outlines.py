@@ -3,7 +3,17 @@ import unittest
 from fractions import Fraction
 
 from panelworks.errors import BadOutline, BadSketch, NoPoint
-from panelworks.outlines import edges_of, is_fair, loop_area, loop_length, loop_of, need_loop, need_outline, plain_loop, turns_of
+from panelworks.outlines import (
+    edges_of,
+    is_fair,
+    loop_area,
+    loop_length,
+    loop_of,
+    need_loop,
+    need_outline,
+    plain_loop,
+    turns_of,
+)
 
 from tests.helpers import ODD_THINGS, loop_from, pair, plain, point, refusal, spots, whole
 
@@ -14,18 +24,38 @@ TEE = spots(2, 1, 2, 3, 1, 3, 1, 1, 0, 1, 0, 0, 3, 0, 3, 1)
 TWELVE = spots(0, 0, 1, 0, 1, 1, 2, 1, 2, 2, 3, 2, 3, 3, 4, 3, 4, 4, 5, 4, 5, 5, 0, 5)
 
 NO_LOOPS = (
-    list(SQUARE), SQUARE[:3], SQUARE[:2], (), SQUARE + SQUARE[:1], TWELVE + spots(0, 4, -1, 4), TWELVE[:11], SQUARE[:3] + (None,),
-    SQUARE[:3] + ((0, 2),), SQUARE[:3] + ((whole(0),),), SQUARE[:3] + ((whole(0), whole(2), whole(0)),),
-    SQUARE[:3] + ([whole(0), whole(2)],), SQUARE[:3] + ((whole(0), (2, 2)),), SQUARE[:3] + (((True, 1), whole(2)),), "abcd", (1, 2, 3, 4),
+    list(SQUARE),
+    SQUARE[:3],
+    SQUARE[:2],
+    (),
+    SQUARE + SQUARE[:1],
+    TWELVE + spots(0, 4, -1, 4),
+    TWELVE[:11],
+    SQUARE[:3] + (None,),
+    SQUARE[:3] + ((0, 2),),
+    SQUARE[:3] + ((whole(0),),),
+    SQUARE[:3] + ((whole(0), whole(2), whole(0)),),
+    SQUARE[:3] + ([whole(0), whole(2)],),
+    SQUARE[:3] + ((whole(0), (2, 2)),),
+    SQUARE[:3] + (((True, 1), whole(2)),),
+    "abcd",
+    (1, 2, 3, 4),
 )
 UNFAIR = (
-    (spots(0, 0, 1, 1, 0, 1, 0, 0), 0), (spots(0, 0, 0, 0, 1, 0, 1, 1), 0), (spots(0, 0, 2, 0, 2, 2, 1, 3), 2),
-    (spots(0, 0, 2, 0, 2, 2, 2, 2), 2), (spots(0, 0, 1, 0, 2, 0, 2, 2, 0, 2, 0, 1), 1), (spots(0, 0, 2, 0, 2, 1, 2, 2, 0, 2, 0, 1), 2),
-    (spots(0, 0, 2, 0, 2, 2, 0, 1), 2), (spots(0, 0, 2, 0, 2, 2, 1, 2), 3), (spots(0, 0, 2, 0, 1, 0, 1, 1), 1),
+    (spots(0, 0, 1, 1, 0, 1, 0, 0), 0),
+    (spots(0, 0, 0, 0, 1, 0, 1, 1), 0),
+    (spots(0, 0, 2, 0, 2, 2, 1, 3), 2),
+    (spots(0, 0, 2, 0, 2, 2, 2, 2), 2),
+    (spots(0, 0, 1, 0, 2, 0, 2, 2, 0, 2, 0, 1), 1),
+    (spots(0, 0, 2, 0, 2, 1, 2, 2, 0, 2, 0, 1), 2),
+    (spots(0, 0, 2, 0, 2, 2, 0, 1), 2),
+    (spots(0, 0, 2, 0, 2, 2, 1, 2), 3),
+    (spots(0, 0, 2, 0, 1, 0, 1, 1), 1),
     # Kinds go ahead of what edges have in common.
     (spots(0, 0, 2, 0, 2, 2, 1, 2, 1, -1, 0, 3), 4),
     # An edge through another one, and others that have a spot in common or no length.
-    (spots(0, 0, 4, 0, 4, 2, 1, 2, 1, -1, 0, -1), 0), (spots(0, 0, 4, 0, 4, 2, 1, 2, 1, 0, 0, 0), 5),
+    (spots(0, 0, 4, 0, 4, 2, 1, 2, 1, -1, 0, -1), 0),
+    (spots(0, 0, 4, 0, 4, 2, 1, 2, 1, 0, 0, 0), 5),
     (spots(0, 0, 4, 0, 4, 2, 0, 2, 0, 1, -1, 1, -1, 0, 0, 0), 7),
     (spots(0, 0, 2, 0, 2, 2, 4, 2, 4, 1, 1, 1, 1, 3, 0, 3), 1),
     (spots(1, 0, 1, 3, 4, 3, 4, 2, 2, 2, 2, 1, 4, 1, 4, 2, 5, 2, 5, 0), 2),
@@ -116,14 +146,21 @@ def quarters(start, end):
 
 
 class Outlines(unittest.TestCase):
-    PLACES = (point("a", 0, 0), point("b", 2, 0), point("c", 2, 2), point("d", 0, 2), point("e", 1, 0), point("far", "1/100000", 10 ** 9))
+    PLACES = (
+        point("a", 0, 0),
+        point("b", 2, 0),
+        point("c", 2, 2),
+        point("d", 0, 2),
+        point("e", 1, 0),
+        point("far", "1/100000", 10**9),
+    )
 
     def test_loop_of(self):
         self.assertEqual(loop_of(self.PLACES, ("a", "b", "c", "d")), SQUARE)
         self.assertEqual(loop_of(places=self.PLACES, names=("d", "c", "b", "a")), SQUARE[::-1])
         # Fair or not.
         self.assertEqual(loop_of(self.PLACES, ("a", "c", "b", "d")), (SQUARE[0], SQUARE[2], SQUARE[1], SQUARE[3]))
-        self.assertEqual(loop_of(self.PLACES, ("a", "b", "c", "far"))[3], (pair("1/100000"), whole(10 ** 9)))
+        self.assertEqual(loop_of(self.PLACES, ("a", "b", "c", "far"))[3], (pair("1/100000"), whole(10**9)))
 
     def test_need_outline(self):
         self.assertEqual(need_outline(self.PLACES, ("a", "b", "c", "d")), SQUARE)
@@ -135,9 +172,23 @@ class Outlines(unittest.TestCase):
         for call in (loop_of, need_outline):
             for places in (None, [self.PLACES[0]], self.PLACES[:1] * 2, (("a", 0, 0),)):
                 self.assertEqual(refusal(self, BadSketch, call, places, None).part, "points")
-            wrong = (("a", "b", "c"), ("a", "b", "c", "d", "e"), ["a", "b", "c", "d"], ("a", "b", "c", "a"), ("a", "b", "c", ""),
-                     ("a", "b", "c", "A"), ("a", "b", "c", None), ("a", "b", "c", ["d"]), ("a", "b"), "abcd", ("z", "z", "a", "b"),
-                     ("z", "b", "c"), ("z", "y", "x", 1), tuple("abcdefghijklmn"), tuple("abcdefghijk"))
+            wrong = (
+                ("a", "b", "c"),
+                ("a", "b", "c", "d", "e"),
+                ["a", "b", "c", "d"],
+                ("a", "b", "c", "a"),
+                ("a", "b", "c", ""),
+                ("a", "b", "c", "A"),
+                ("a", "b", "c", None),
+                ("a", "b", "c", ["d"]),
+                ("a", "b"),
+                "abcd",
+                ("z", "z", "a", "b"),
+                ("z", "b", "c"),
+                ("z", "y", "x", 1),
+                tuple("abcdefghijklmn"),
+                tuple("abcdefghijk"),
+            )
             for names in wrong + ODD_THINGS:
                 self.assertIsNone(refusal(self, BadOutline, call, self.PLACES, names).number)
             self.assertEqual(refusal(self, NoPoint, call, self.PLACES, ("a", "z", "c", "y")).name, "z")
@@ -148,8 +199,15 @@ class Outlines(unittest.TestCase):
 
 class Told(unittest.TestCase):
     def test_edges(self):
-        self.assertEqual(edges_of(SQUARE), [("level", SQUARE[0], SQUARE[1]), ("upright", SQUARE[1], SQUARE[2]),
-                                            ("level", SQUARE[2], SQUARE[3]), ("upright", SQUARE[3], SQUARE[0])])
+        self.assertEqual(
+            edges_of(SQUARE),
+            [
+                ("level", SQUARE[0], SQUARE[1]),
+                ("upright", SQUARE[1], SQUARE[2]),
+                ("level", SQUARE[2], SQUARE[3]),
+                ("upright", SQUARE[3], SQUARE[0]),
+            ],
+        )
         self.assertEqual([kind for kind, _, _ in edges_of(loop=TEE)], ["upright", "level"] * 4)
         edges_of(SQUARE).clear()
         self.assertEqual(len(edges_of(SQUARE)), 4)
@@ -187,8 +245,12 @@ class Told(unittest.TestCase):
             self.assertIn(turns_of(loop), ((left, right), (right, left)))
 
     def test_area_and_length(self):
-        self.assertEqual([loop_area(loop) for loop in (SQUARE, ELL, TEE, TWELVE)], [whole(4), whole(5), whole(5), whole(15)])
-        self.assertEqual([loop_length(loop) for loop in (SQUARE, ELL, TEE, TWELVE)], [whole(8), whole(10), whole(12), whole(20)])
+        self.assertEqual(
+            [loop_area(loop) for loop in (SQUARE, ELL, TEE, TWELVE)], [whole(4), whole(5), whole(5), whole(15)]
+        )
+        self.assertEqual(
+            [loop_length(loop) for loop in (SQUARE, ELL, TEE, TWELVE)], [whole(8), whole(10), whole(12), whole(20)]
+        )
         small = tuple((pair(Fraction(plain(x), 3)), pair(plain(y) / 2 - 7)) for x, y in ELL)
         self.assertEqual((loop_area(loop=small), loop_length(loop=small)), (pair("5/6"), pair(4)))
 

@@ -5,33 +5,98 @@ from panelworks import sayings as module
 from panelworks.errors import BadSketch, OutOfPlace
 from panelworks.sayings import coordinates_of, need_places, need_sketch, row_of, saying_holds
 
-from tests.helpers import (ODD_THINGS, coordinates, off, pair, point, refusal, row, saying_from, sketch_from, values_at, whole)
+from tests.helpers import (
+    ODD_THINGS,
+    coordinates,
+    off,
+    pair,
+    point,
+    refusal,
+    row,
+    saying_from,
+    sketch_from,
+    values_at,
+    whole,
+)
 
 A = point("a", 0, 0)
 B = point("b", 1, 2)
 C = point("c", "7/2", -3)
 ABC = (A, B, C)
-SAYINGS = (("at", "a", "x", 3), ("level", "a", "b", "y"), ("apart", "a", "b", "x", -999), ("middle", "a", "b", "c", "x"),
-           ("as", "a", "b", "x", "b", "c", "y", 1, 99))
+SAYINGS = (
+    ("at", "a", "x", 3),
+    ("level", "a", "b", "y"),
+    ("apart", "a", "b", "x", -999),
+    ("middle", "a", "b", "c", "x"),
+    ("as", "a", "b", "x", "b", "c", "y", 1, 99),
+)
 
 WRONG_POINTS = (
-    ("a", (0, 1)), ("a", (0, 1), (0, 1), (0, 1)), ["a", (0, 1), (0, 1)], ("", (0, 1), (0, 1)), ("A", (0, 1), (0, 1)),
-    ("abcdefghi", (0, 1), (0, 1)), (1, (0, 1), (0, 1)), ("a", 0, (0, 1)), ("a", (0, 1), 0), ("a", (2, 4), (0, 1)),
-    ("a", (0, 1), (1, -1)), ("a", (True, 1), (0, 1)), ("a", (0, 1), (0, 1.0)), ("a", [0, 1], (0, 1)), "abc",
+    ("a", (0, 1)),
+    ("a", (0, 1), (0, 1), (0, 1)),
+    ["a", (0, 1), (0, 1)],
+    ("", (0, 1), (0, 1)),
+    ("A", (0, 1), (0, 1)),
+    ("abcdefghi", (0, 1), (0, 1)),
+    (1, (0, 1), (0, 1)),
+    ("a", 0, (0, 1)),
+    ("a", (0, 1), 0),
+    ("a", (2, 4), (0, 1)),
+    ("a", (0, 1), (1, -1)),
+    ("a", (True, 1), (0, 1)),
+    ("a", (0, 1), (0, 1.0)),
+    ("a", [0, 1], (0, 1)),
+    "abc",
 )
 TOO_FAR = (("a", (10000, 1), (0, 1)), ("a", (0, 1), (-10000, 1)), ("a", (1, 100), (0, 1)), ("a", (0, 1), (9999, 100)))
 WRONG_SAYINGS = (
-    ("at",), ("at", "a", "x"), ("at", "a", "x", 3, 4), ["at", "a", "x", 3], ("at", "a", "z", 3), ("at", "a", 0, 3), ("at", "a", "X", 3),
-    ("at", "a", "x", 1000), ("at", "a", "x", -1000), ("at", "a", "x", True), ("at", "a", "x", 3.0), ("at", "a", "x", (3, 1)),
-    ("at", "a", "x", "3"), ("at", "d", "x", 3), ("at", "", "x", 3), ("at", 1, "x", 3), ("at", ["a"], "x", 3), ("At", "a", "x", 3),
-    ("level", "a", "b"), ("level", "a", "d", "x"), ("level", "d", "a", "x"), ("level", "a", "b", "xy"), ("level", "a", "b", "x", 0),
-    ("apart", "a", "b", "x"), ("apart", "a", "b", "x", None), ("apart", "a", "b", "x", 1000), ("apart", "a", "b", ["x"], 1),
-    ("middle", "a", "b", "x"), ("middle", "a", "b", "d", "x"), ("middle", "a", "d", "b", "x"), ("middle", "a", "b", "c", "x", 0),
-    ("as", "a", "b", "x", "b", "c", "y", 1), ("as", "a", "b", "x", "b", "c", "y", 0, 1), ("as", "a", "b", "x", "b", "c", "y", 1, 0),
-    ("as", "a", "b", "x", "b", "c", "y", 100, 1), ("as", "a", "b", "x", "b", "c", "y", 1, 100), ("as", "a", "b", "x", "b", "c", "y", -1, 1),
-    ("as", "a", "b", "x", "b", "c", "y", True, 1), ("as", "a", "b", "x", "b", "d", "y", 1, 1), ("as", "a", "b", "x", "d", "b", "y", 1, 1),
-    ("as", "a", "b", "z", "b", "c", "y", 1, 1), ("as", "a", "b", "x", "b", "c", "z", 1, 1), ("near", "a", "b", "x"), (None, "a", "x", 3),
-    (["at"], "a", "x", 3), (("at",), "a", "x", 3), "at a x 3",
+    ("at",),
+    ("at", "a", "x"),
+    ("at", "a", "x", 3, 4),
+    ["at", "a", "x", 3],
+    ("at", "a", "z", 3),
+    ("at", "a", 0, 3),
+    ("at", "a", "X", 3),
+    ("at", "a", "x", 1000),
+    ("at", "a", "x", -1000),
+    ("at", "a", "x", True),
+    ("at", "a", "x", 3.0),
+    ("at", "a", "x", (3, 1)),
+    ("at", "a", "x", "3"),
+    ("at", "d", "x", 3),
+    ("at", "", "x", 3),
+    ("at", 1, "x", 3),
+    ("at", ["a"], "x", 3),
+    ("At", "a", "x", 3),
+    ("level", "a", "b"),
+    ("level", "a", "d", "x"),
+    ("level", "d", "a", "x"),
+    ("level", "a", "b", "xy"),
+    ("level", "a", "b", "x", 0),
+    ("apart", "a", "b", "x"),
+    ("apart", "a", "b", "x", None),
+    ("apart", "a", "b", "x", 1000),
+    ("apart", "a", "b", ["x"], 1),
+    ("middle", "a", "b", "x"),
+    ("middle", "a", "b", "d", "x"),
+    ("middle", "a", "d", "b", "x"),
+    ("middle", "a", "b", "c", "x", 0),
+    ("as", "a", "b", "x", "b", "c", "y", 1),
+    ("as", "a", "b", "x", "b", "c", "y", 0, 1),
+    ("as", "a", "b", "x", "b", "c", "y", 1, 0),
+    ("as", "a", "b", "x", "b", "c", "y", 100, 1),
+    ("as", "a", "b", "x", "b", "c", "y", 1, 100),
+    ("as", "a", "b", "x", "b", "c", "y", -1, 1),
+    ("as", "a", "b", "x", "b", "c", "y", True, 1),
+    ("as", "a", "b", "x", "b", "d", "y", 1, 1),
+    ("as", "a", "b", "x", "d", "b", "y", 1, 1),
+    ("as", "a", "b", "z", "b", "c", "y", 1, 1),
+    ("as", "a", "b", "x", "b", "c", "z", 1, 1),
+    ("near", "a", "b", "x"),
+    (None, "a", "x", 3),
+    (["at"], "a", "x", 3),
+    (("at",), "a", "x", 3),
+    "at a x 3",
 )
 
 
@@ -44,15 +109,25 @@ class Sketches(unittest.TestCase):
         self.assertEqual(module.AXES, ("x", "y"))
 
     def test_let_by(self):
-        for points in ((), ABC, tuple(point(chr(97 + k), 0, k) for k in range(12)),
-                       (point("a", 9999, -9999),), (("a", (9999, 98), (-1, 99)),)):
+        for points in (
+            (),
+            ABC,
+            tuple(point(chr(97 + k), 0, k) for k in range(12)),
+            (point("a", 9999, -9999),),
+            (("a", (9999, 98), (-1, 99)),),
+        ):
             self.assertIsNone(need_sketch(points))
             self.assertIsNone(need_sketch(points, ()))
         self.assertIsNone(need_sketch(ABC, SAYINGS))
         self.assertIsNone(need_sketch(ABC, SAYINGS * 4))
         self.assertIsNone(need_sketch(points=ABC, sayings=SAYINGS))
-        for saying in (("at", "a", "x", 999), ("at", "a", "x", -999), ("level", "a", "a", "x"), ("middle", "a", "a", "a", "y"),
-                       ("as", "a", "a", "x", "a", "a", "x", 99, 1)):
+        for saying in (
+            ("at", "a", "x", 999),
+            ("at", "a", "x", -999),
+            ("level", "a", "a", "x"),
+            ("middle", "a", "a", "a", "y"),
+            ("as", "a", "a", "x", "a", "a", "x", 99, 1),
+        ):
             self.assertIsNone(need_sketch(ABC, (saying,)))
 
     def test_no_points(self):
@@ -73,7 +148,7 @@ class Sketches(unittest.TestCase):
         for thing in TOO_FAR:
             self.wrong("points", 1, need_sketch, (B, thing))
             self.assertIsNone(need_places((B, thing)))
-        self.assertIsNone(need_places(places=(("a", (10 ** 30, 7), (1, 10 ** 20)),)))
+        self.assertIsNone(need_places(places=(("a", (10**30, 7), (1, 10**20)),)))
         self.assertIsNone(need_places(()))
 
     def test_no_sayings(self):
@@ -136,8 +211,10 @@ class Rows(unittest.TestCase):
             self.assertEqual(row_of(ABC, saying), (terms, number))
 
     def test_terms_stand_in_order(self):
-        self.assertEqual(row_of((C, B, A), ("as", "a", "b", "x", "b", "c", "y", 2, 3)),
-                         (((("c", "y"), -2), (("b", "x"), 3), (("b", "y"), 2), (("a", "x"), -3)), 0))
+        self.assertEqual(
+            row_of((C, B, A), ("as", "a", "b", "x", "b", "c", "y", 2, 3)),
+            (((("c", "y"), -2), (("b", "x"), 3), (("b", "y"), 2), (("a", "x"), -3)), 0),
+        )
 
     def test_by_trying(self):
         chance = random.Random(5)
@@ -170,10 +247,17 @@ class Holding(unittest.TestCase):
 
     def test_off_whole_numbers(self):
         places = (point("a", "1/3", "10/7"), point("b", "4/3", "1/100000"), point("c", "7/3", "99999/7"))
-        for saying, wanted in ((("at", "a", "x", 0), False), (("apart", "a", "b", "x", 1), True), (("apart", "b", "a", "x", 1), False),
-                               (("apart", "b", "a", "x", -1), True), (("middle", "a", "b", "c", "x"), True),
-                               (("middle", "b", "a", "c", "x"), False), (("as", "a", "c", "x", "a", "b", "x", 2, 1), True),
-                               (("as", "a", "c", "x", "a", "b", "x", 1, 2), False), (("level", "a", "b", "y"), False)):
+        for saying, wanted in (
+            (("at", "a", "x", 0), False),
+            (("apart", "a", "b", "x", 1), True),
+            (("apart", "b", "a", "x", 1), False),
+            (("apart", "b", "a", "x", -1), True),
+            (("middle", "a", "b", "c", "x"), True),
+            (("middle", "b", "a", "c", "x"), False),
+            (("as", "a", "c", "x", "a", "b", "x", 2, 1), True),
+            (("as", "a", "c", "x", "a", "b", "x", 1, 2), False),
+            (("level", "a", "b", "y"), False),
+        ):
             self.assertIs(saying_holds(places, saying), wanted, saying)
 
     def test_without_terms(self):
@@ -182,7 +266,7 @@ class Holding(unittest.TestCase):
         self.assertIs(saying_holds(ABC, ("apart", "a", "a", "x", 1)), False)
 
     def test_places_may_be_far_off(self):
-        self.assertIs(saying_holds(places=(("a", whole(10 ** 9), (1, 1000)),), saying=("at", "a", "x", 3)), False)
+        self.assertIs(saying_holds(places=(("a", whole(10**9), (1, 1000)),), saying=("at", "a", "x", 3)), False)
 
     def test_refused(self):
         for places in (None, [A], (A, A), (A, ("b", (2, 4), (0, 1)))):

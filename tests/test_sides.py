@@ -10,7 +10,15 @@ from tests.helpers import ODD_THINGS, loop_from, pair, plain, refusal, spots, wh
 SQUARE = spots(0, 0, 2, 0, 2, 2, 0, 2)
 # Three teeth that point up, with gaps between them: edges 1, 3, 5, 7, 9 and 11 are upright.
 COMB = spots(0, 0, 5, 0, 5, 3, 4, 3, 4, 1, 3, 1, 3, 3, 2, 3, 2, 1, 1, 1, 1, 3, 0, 3)
-NO_SPOTS = ((0, 0), (whole(0),), (whole(0), whole(0), whole(0)), [whole(0), whole(0)], (whole(0), (2, 2)), (whole(0), None), ((0, 1), (True, 1)))
+NO_SPOTS = (
+    (0, 0),
+    (whole(0),),
+    (whole(0), whole(0), whole(0)),
+    [whole(0), whole(0)],
+    (whole(0), (2, 2)),
+    (whole(0), None),
+    ((0, 1), (True, 1)),
+)
 
 
 def spot(x, y):
@@ -20,12 +28,24 @@ def spot(x, y):
 class Sides(unittest.TestCase):
     def test_told(self):
         told = (
-            (spot(1, 1), "in", ("left", (3,))), (spot("1/100", "199/100"), "in", ("left", (3,))), (spot(3, 1), "out", ("left", (1, 3))),
-            (spot(-1, 1), "out", ("left", ())), (spot(1, 3), "out", ("left", ())), (spot(3, 2), "out", ("left", ())),
-            (spot(3, 0), "out", ("left", (1, 3))), (spot(3, -1), "out", ("left", ())), (spot(-1, 0), "out", ("left", ())),
-            (spot(1, 0), "edge", ("edge", 0)), (spot(2, 1), "edge", ("edge", 1)), (spot(1, 2), "edge", ("edge", 2)),
-            (spot(0, 1), "edge", ("edge", 3)), (spot(0, 0), "edge", ("edge", 0)), (spot(2, 0), "edge", ("edge", 0)),
-            (spot(2, 2), "edge", ("edge", 1)), (spot(0, 2), "edge", ("edge", 2)), (spot(0, "2/3"), "edge", ("edge", 3)),
+            (spot(1, 1), "in", ("left", (3,))),
+            (spot("1/100", "199/100"), "in", ("left", (3,))),
+            (spot(3, 1), "out", ("left", (1, 3))),
+            (spot(-1, 1), "out", ("left", ())),
+            (spot(1, 3), "out", ("left", ())),
+            (spot(3, 2), "out", ("left", ())),
+            (spot(3, 0), "out", ("left", (1, 3))),
+            (spot(3, -1), "out", ("left", ())),
+            (spot(-1, 0), "out", ("left", ())),
+            (spot(1, 0), "edge", ("edge", 0)),
+            (spot(2, 1), "edge", ("edge", 1)),
+            (spot(1, 2), "edge", ("edge", 2)),
+            (spot(0, 1), "edge", ("edge", 3)),
+            (spot(0, 0), "edge", ("edge", 0)),
+            (spot(2, 0), "edge", ("edge", 0)),
+            (spot(2, 2), "edge", ("edge", 1)),
+            (spot(0, 2), "edge", ("edge", 2)),
+            (spot(0, "2/3"), "edge", ("edge", 3)),
         )
         for there, word, paper in told:
             self.assertEqual(side_of(SQUARE, there), word, there)
@@ -38,10 +58,16 @@ class Sides(unittest.TestCase):
 
     def test_at_the_height_of_corners(self):
         told = (
-            (spot(6, 1), "out", ("left", (1, 3, 5, 7, 9, 11))), (spot(6, 3), "out", ("left", ())), (spot(6, 0), "out", ("left", (1, 11))),
-            (spot("5/2", 1), "in", ("left", (7, 9, 11))), (spot("7/2", 2), "out", ("left", (5, 7, 9, 11))),
-            (spot("7/2", 1), "edge", ("edge", 4)), (spot(3, 1), "edge", ("edge", 4)), (spot(4, 1), "edge", ("edge", 3)),
-            (spot("1/2", "1/2"), "in", ("left", (11,))), (spot("9/2", 2), "in", ("left", (3, 5, 7, 9, 11))),
+            (spot(6, 1), "out", ("left", (1, 3, 5, 7, 9, 11))),
+            (spot(6, 3), "out", ("left", ())),
+            (spot(6, 0), "out", ("left", (1, 11))),
+            (spot("5/2", 1), "in", ("left", (7, 9, 11))),
+            (spot("7/2", 2), "out", ("left", (5, 7, 9, 11))),
+            (spot("7/2", 1), "edge", ("edge", 4)),
+            (spot(3, 1), "edge", ("edge", 4)),
+            (spot(4, 1), "edge", ("edge", 3)),
+            (spot("1/2", "1/2"), "in", ("left", (11,))),
+            (spot("9/2", 2), "in", ("left", (3, 5, 7, 9, 11))),
         )
         for there, word, paper in told:
             self.assertEqual(side_of(COMB, there), word, there)
@@ -103,9 +129,29 @@ class Lookers(unittest.TestCase):
         self.assertEqual(refusal(self, BadPaper, check_side, loop, there, paper).place, place, paper)
 
     def test_of_no_form(self):
-        wrong = (("edge",), ("left",), ("edge", 0, 0), ["edge", 0], ("in", ()), ("left", [3]), ("left", 3), ("left", None),
-                 ("edge", None), ("edge", True), ("edge", "0"), ("edge", (0,)), ("edge", 0.0), (None, 0), (["left"], (3,)),
-                 ("left", (None,)), ("left", ("3",)), ("left", (True,)), ("left", (3.0,)), ("left", ((3,),)), ("Left", (3,)))
+        wrong = (
+            ("edge",),
+            ("left",),
+            ("edge", 0, 0),
+            ["edge", 0],
+            ("in", ()),
+            ("left", [3]),
+            ("left", 3),
+            ("left", None),
+            ("edge", None),
+            ("edge", True),
+            ("edge", "0"),
+            ("edge", (0,)),
+            ("edge", 0.0),
+            (None, 0),
+            (["left"], (3,)),
+            ("left", (None,)),
+            ("left", ("3",)),
+            ("left", (True,)),
+            ("left", (3.0,)),
+            ("left", ((3,),)),
+            ("Left", (3,)),
+        )
         for paper in ODD_THINGS + wrong:
             for there in (spot(1, 1), spot(1, 0), spot(9, 9)):
                 self.wrong(None, SQUARE, there, paper)
@@ -126,9 +172,20 @@ class Lookers(unittest.TestCase):
 
     def test_numbers_that_arent_so(self):
         there = spot("7/2", 2)
-        for paper, place in (((5, 7, 9, 11), None), ((3, 5, 7, 9, 11), 0), ((5, 6, 7, 9, 11), 1), ((5, 7, 9, 10), 3), ((5, 7, 9, 11, 12), 4),
-                             ((5, 7, 9, 11, 11), 4), ((5, 7, 7, 9, 11), 2), ((7, 5, 9, 11), 1), ((-1, 5, 7, 9, 11), 0), ((5, 7, 9, 99), 3),
-                             ((1,), 0), ((5, 7, 9, 11, 1), 4)):
+        for paper, place in (
+            ((5, 7, 9, 11), None),
+            ((3, 5, 7, 9, 11), 0),
+            ((5, 6, 7, 9, 11), 1),
+            ((5, 7, 9, 10), 3),
+            ((5, 7, 9, 11, 12), 4),
+            ((5, 7, 9, 11, 11), 4),
+            ((5, 7, 7, 9, 11), 2),
+            ((7, 5, 9, 11), 1),
+            ((-1, 5, 7, 9, 11), 0),
+            ((5, 7, 9, 99), 3),
+            ((1,), 0),
+            ((5, 7, 9, 11, 1), 4),
+        ):
             if place is None:
                 self.assertEqual(check_side(COMB, there, ("left", paper)), "out")
             else:

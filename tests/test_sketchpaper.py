@@ -6,8 +6,21 @@ from panelworks.following import free_ways, word_beside
 from panelworks.sketchpaper import check_near, check_ways, check_word, near_paper, ways_paper, word_paper
 from panelworks.solving import solved
 
-from tests.helpers import (ODD_THINGS, clash_number, coordinates, off, pair, plain, point, refusal, row, saying_from, sketch_from,
-                           values_at, whole)
+from tests.helpers import (
+    ODD_THINGS,
+    clash_number,
+    coordinates,
+    off,
+    pair,
+    plain,
+    point,
+    refusal,
+    row,
+    saying_from,
+    sketch_from,
+    values_at,
+    whole,
+)
 
 A = point("a", 0, 0)
 B = point("b", 4, 1)
@@ -48,7 +61,7 @@ def moved(points, saying, motion):
 
 
 def exchanged(row, place, thing):
-    return row[:place] + (thing,) + row[place + 1:]
+    return row[:place] + (thing,) + row[place + 1 :]
 
 
 class Near(unittest.TestCase):
@@ -78,14 +91,28 @@ class Near(unittest.TestCase):
         self.assertEqual(check_near(ABC, still, (ABC, (whole(99),))), ABC)
 
     def test_of_no_form(self):
-        for paper in ODD_THINGS + ((PLACES,), NEAR + ((),), list(NEAR), (list(PLACES), MULTIPLIERS), (PLACES, list(MULTIPLIERS)),
-                                   (None, MULTIPLIERS), (PLACES, None)):
+        for paper in ODD_THINGS + (
+            (PLACES,),
+            NEAR + ((),),
+            list(NEAR),
+            (list(PLACES), MULTIPLIERS),
+            (PLACES, list(MULTIPLIERS)),
+            (None, MULTIPLIERS),
+            (PLACES, None),
+        ):
             self.wrong(None, paper)
 
     def test_places(self):
         for place in range(3):
-            for thing in (None, point("d", 0, 0), PLACES[place][:2], list(PLACES[place]), PLACES[place] + (0,),
-                          (PLACES[place][0], 2, NOUGHT), (PLACES[place][0], NOUGHT, (2, 4))):
+            for thing in (
+                None,
+                point("d", 0, 0),
+                PLACES[place][:2],
+                list(PLACES[place]),
+                PLACES[place] + (0,),
+                (PLACES[place][0], 2, NOUGHT),
+                (PLACES[place][0], NOUGHT, (2, 4)),
+            ):
                 self.wrong(("places", place), (exchanged(PLACES, place, thing), MULTIPLIERS))
         self.wrong(("places", 0), ((PLACES[1], PLACES[0], PLACES[2]), MULTIPLIERS))
         self.wrong(("places", 1), ((PLACES[0], PLACES[0], PLACES[2]), MULTIPLIERS))
@@ -168,13 +195,28 @@ class Words(unittest.TestCase):
         self.assertEqual(check_word(ABC, (), ("apart", "a", "a", "x", 1), ("clashes", ())), "clashes")
 
     def test_of_no_form(self):
-        wrong = (("follows",), self.SHOWN + ((),), list(self.SHOWN), ("follows", list(self.SHOWN[1])), ("follows", None),
-                 ("near", self.SHOWN[1]), (None, ()), (1, ()), ("", ()), (["follows"], ()), ("Free", ()), ("free", None))
+        wrong = (
+            ("follows",),
+            self.SHOWN + ((),),
+            list(self.SHOWN),
+            ("follows", list(self.SHOWN[1])),
+            ("follows", None),
+            ("near", self.SHOWN[1]),
+            (None, ()),
+            (1, ()),
+            ("", ()),
+            (["follows"], ()),
+            ("Free", ()),
+            ("free", None),
+        )
         for paper in ODD_THINGS + wrong:
             self.wrong(None, self.FOLLOWS, paper)
 
     def test_multipliers(self):
-        for word, saying, part in (self.SHOWN[:1] + (self.FOLLOWS,) + self.SHOWN[1:], self.OTHER[:1] + (self.CLASHES,) + self.OTHER[1:]):
+        for word, saying, part in (
+            self.SHOWN[:1] + (self.FOLLOWS,) + self.SHOWN[1:],
+            self.OTHER[:1] + (self.CLASHES,) + self.OTHER[1:],
+        ):
             for place in range(3):
                 for thing in WRONG_FRACTIONS:
                     self.wrong(("multipliers", place), saying, (word, exchanged(part, place, thing)))
@@ -193,8 +235,10 @@ class Words(unittest.TestCase):
         self.wrong(("motion", 3), self.FREE, ("free", part + (point("d", 0, 0),)))
 
     def test_sums(self):
-        for word, saying, part, places in (("follows", self.FOLLOWS, self.SHOWN[1], (0, 1, 2)),
-                                           ("clashes", self.CLASHES, self.OTHER[1], (0, 1, 2))):
+        for word, saying, part, places in (
+            ("follows", self.FOLLOWS, self.SHOWN[1], (0, 1, 2)),
+            ("clashes", self.CLASHES, self.OTHER[1], (0, 1, 2)),
+        ):
             for number, place in enumerate(places):
                 self.wrong(("sum", place), saying, (word, exchanged(part, number, whole(7))))
         # The number behind all coordinates: the Ns of the other word.
@@ -245,7 +289,9 @@ class Ways(unittest.TestCase):
                 self.assertEqual([one for one, _ in part], [one for one in coordinates(points) if one in dict(part)])
             for name, motion in motions:
                 self.assertEqual([moved(points, one, motion) for one in sayings], [0] * len(sayings))
-                self.assertEqual([values_at(motion)[other] for other, _ in motions], [int(name == other) for other, _ in motions])
+                self.assertEqual(
+                    [values_at(motion)[other] for other, _ in motions], [int(name == other) for other, _ in motions]
+                )
             for name, multipliers in sums:
                 factors = dict(zip(coordinates(points), summed(points, sayings, multipliers)[0]))
                 self.assertEqual([factors[other] for other, _ in sums], [int(name == other) for other, _ in sums])
@@ -264,7 +310,9 @@ class Ways(unittest.TestCase):
         shared = (("a", "x"), (whole(-3), NOUGHT, whole(-2)))
         self.assertEqual(check_ways(self.POINTS, self.SAYINGS, ((self.Y, self.X), (shared, self.SUM_Y))), 2)
         # A motion may go along with coordinates of no other motion.
-        self.assertEqual(check_ways((A,), (), (((("a", "x"), (point("a", 1, 0),)), (("a", "y"), (point("a", 0, 1),))), ())), 2)
+        self.assertEqual(
+            check_ways((A,), (), (((("a", "x"), (point("a", 1, 0),)), (("a", "y"), (point("a", 0, 1),))), ())), 2
+        )
         self.assertEqual(check_ways((), (), ((), ())), 0)
 
     def test_never_a_clash(self):
@@ -273,13 +321,34 @@ class Ways(unittest.TestCase):
         self.assertEqual(check_ways(self.POINTS, clash, ((self.Y, self.X), (self.SUM_X, self.SUM_Y))), 2)
 
     def test_of_no_form(self):
-        for paper in ODD_THINGS + (self.PAPER[:1], self.PAPER + ((),), list(self.PAPER), ([], ()), ((), []), (None, ()), ((), None)):
+        for paper in ODD_THINGS + (
+            self.PAPER[:1],
+            self.PAPER + ((),),
+            list(self.PAPER),
+            ([], ()),
+            ((), []),
+            (None, ()),
+            ((), None),
+        ):
             self.assertIsNone(refusal(self, BadPaper, check_ways, self.POINTS, self.SAYINGS, paper).place)
 
     def test_motions_by_their_form(self):
-        wrong = (None, self.Y[:1], self.Y + (0,), list(self.Y), (("d", "x"), self.Y[1]), (["a", "y"], self.Y[1]), ("a", self.Y[1]),
-                 (("a", "z"), self.Y[1]), (("a", "y"), None), (("a", "y"), list(self.Y[1])), (("a", "y"), self.Y[1][:1]),
-                 (("a", "y"), self.Y[1] + (point("c", 0, 0),)), (("a", "y"), self.Y[1][::-1]), (("a", "y"), (A, ("b", 0, 0))))
+        wrong = (
+            None,
+            self.Y[:1],
+            self.Y + (0,),
+            list(self.Y),
+            (("d", "x"), self.Y[1]),
+            (["a", "y"], self.Y[1]),
+            ("a", self.Y[1]),
+            (("a", "z"), self.Y[1]),
+            (("a", "y"), None),
+            (("a", "y"), list(self.Y[1])),
+            (("a", "y"), self.Y[1][:1]),
+            (("a", "y"), self.Y[1] + (point("c", 0, 0),)),
+            (("a", "y"), self.Y[1][::-1]),
+            (("a", "y"), (A, ("b", 0, 0))),
+        )
         for thing in wrong:
             self.wrong(("motions", 0), (thing, self.X))
             self.wrong(("motions", 1), (self.Y, thing))
@@ -300,14 +369,27 @@ class Ways(unittest.TestCase):
             self.wrong(("motions", 0), ((("a", "y"), (point("a", *values[:2]), point("b", *values[2:]))), self.X))
         for values in ((1, 1, 1, 0), (0, 0, 1, 0), (2, 0, 2, 0)):
             self.wrong(("motions", 1), (self.Y, (("b", "x"), (point("a", *values[:2]), point("b", *values[2:])))))
-        self.wrong(("motions", 0), ((("a", "y"), (point("a", 1, 1), point("b", 1, 0))),
-                                    (("b", "x"), (point("a", 1, 1), point("b", 1, 0)))))
+        self.wrong(
+            ("motions", 0),
+            ((("a", "y"), (point("a", 1, 1), point("b", 1, 0))), (("b", "x"), (point("a", 1, 1), point("b", 1, 0)))),
+        )
 
     def test_sums_by_their_form(self):
-        wrong = (None, self.SUM_X[:1], self.SUM_X + (0,), list(self.SUM_X), (("d", "x"), self.SUM_X[1]), ("ax", self.SUM_X[1]),
-                 (("a", "x"), None), (("a", "x"), list(self.SUM_X[1])), (("a", "x"), self.SUM_X[1][:2]),
-                 (("a", "x"), self.SUM_X[1] + (NOUGHT,)))
-        wrong += tuple((("a", "x"), exchanged(self.SUM_X[1], place, thing)) for place in range(3) for thing in WRONG_FRACTIONS)
+        wrong = (
+            None,
+            self.SUM_X[:1],
+            self.SUM_X + (0,),
+            list(self.SUM_X),
+            (("d", "x"), self.SUM_X[1]),
+            ("ax", self.SUM_X[1]),
+            (("a", "x"), None),
+            (("a", "x"), list(self.SUM_X[1])),
+            (("a", "x"), self.SUM_X[1][:2]),
+            (("a", "x"), self.SUM_X[1] + (NOUGHT,)),
+        )
+        wrong += tuple(
+            (("a", "x"), exchanged(self.SUM_X[1], place, thing)) for place in range(3) for thing in WRONG_FRACTIONS
+        )
         for thing in wrong:
             self.wrong(("sums", 0), None, (thing, self.SUM_Y))
             self.wrong(("sums", 1), None, (self.SUM_X, thing))

@@ -9,16 +9,27 @@ from tests.helpers import ODD_THINGS
 class Words(unittest.TestCase):
     def test_constants(self):
         told = {
-            "MOST_POINTS": 12, "MOST_SAYINGS": 20, "MOST_NUMBER": 999, "MOST_RATIO": 99, "MOST_PLACED": 9999,
-            "MOST_UNDER": 99, "MOST_RING": 12, "MOST_SIDE": 8, "MOST_HIGH": 6, "MOST_FEATURES": 5, "MOST_TOOLS": 4,
-            "MOST_TOOL": 4, "MOST_LENGTH": 6, "DEPTH": 2,
+            "MOST_POINTS": 12,
+            "MOST_SAYINGS": 20,
+            "MOST_NUMBER": 999,
+            "MOST_RATIO": 99,
+            "MOST_PLACED": 9999,
+            "MOST_UNDER": 99,
+            "MOST_RING": 12,
+            "MOST_SIDE": 8,
+            "MOST_HIGH": 6,
+            "MOST_FEATURES": 5,
+            "MOST_TOOLS": 4,
+            "MOST_TOOL": 4,
+            "MOST_LENGTH": 6,
+            "DEPTH": 2,
         }
         for name, number in told.items():
             self.assertIs(type(getattr(words, name)), int)
             self.assertEqual(getattr(words, name), number, name)
 
     def test_is_whole(self):
-        for thing in (0, 1, -1, 10 ** 30, -10 ** 30):
+        for thing in (0, 1, -1, 10**30, -(10**30)):
             self.assertIs(is_whole(thing), True)
         for thing in ODD_THINGS + ("1", 1.0):
             self.assertIs(is_whole(thing), False)
@@ -50,8 +61,29 @@ class Words(unittest.TestCase):
         for word, number in (("0", 0), ("1", 1), ("9", 9), ("10", 10), ("9999", 9999), ("1000", 1000)):
             self.assertEqual(number_of(word), number)
             self.assertIs(type(number_of(word)), int)
-        wrong = ("", "00", "01", "010", "0000", "10000", "12345", "-1", "-0", "+1", " 1", "1 ", "1\n", "1.0", "1_0", "x",
-                 "\u0661", "\u00b2", "1e3", "0x1", "--1")
+        wrong = (
+            "",
+            "00",
+            "01",
+            "010",
+            "0000",
+            "10000",
+            "12345",
+            "-1",
+            "-0",
+            "+1",
+            " 1",
+            "1 ",
+            "1\n",
+            "1.0",
+            "1_0",
+            "x",
+            "\u0661",
+            "\u00b2",
+            "1e3",
+            "0x1",
+            "--1",
+        )
         for word in wrong + ODD_THINGS + (1, 0):
             self.assertIsNone(number_of(word), word)
 
@@ -59,13 +91,36 @@ class Words(unittest.TestCase):
         told = (("0", 0), ("1", 1), ("-1", -1), ("-10", -10), ("9999", 9999), ("-9999", -9999), ("-999", -999))
         for word, number in told:
             self.assertEqual(signed_of(word), number)
-        wrong = ("", "-", "--1", "-0", "-00", "-01", "01", "+1", "-10000", "10000", "- 1", "-1 ", " -1", "-1\n", "-x", "1-")
+        wrong = (
+            "",
+            "-",
+            "--1",
+            "-0",
+            "-00",
+            "-01",
+            "01",
+            "+1",
+            "-10000",
+            "10000",
+            "- 1",
+            "-1 ",
+            " -1",
+            "-1\n",
+            "-x",
+            "1-",
+        )
         for word in wrong + ODD_THINGS + (1, -1):
             self.assertIsNone(signed_of(word), word)
 
     def test_words_of(self):
-        told = (("a", ["a"]), ("a b", ["a", "b"]), ("at a x -3", ["at", "a", "x", "-3"]), ("a\nb c", ["a\nb", "c"]),
-                ("\n", ["\n"]), ("A ; 1", ["A", ";", "1"]))
+        told = (
+            ("a", ["a"]),
+            ("a b", ["a", "b"]),
+            ("at a x -3", ["at", "a", "x", "-3"]),
+            ("a\nb c", ["a\nb", "c"]),
+            ("\n", ["\n"]),
+            ("A ; 1", ["A", ";", "1"]),
+        )
         for row, parts in told:
             self.assertEqual(words_of(row), parts)
             self.assertIs(type(words_of(row)), list)
