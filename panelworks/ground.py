@@ -2,7 +2,7 @@
 
 from panelworks.errors import OutOfPlace
 from panelworks.fractions import compared, fraction_text, in_order, is_fraction, is_under
-from panelworks.outlines import box_of, is_spot, need_loop, plain_edges
+from panelworks.outlines import box_of, need_loop, need_spot, plain_edges
 from panelworks.runs import area_of, border_of, islands_of, joined_slabs, moved_slabs, neat_slabs, pairs_of
 from panelworks.runs import rectangles_of, slabs_of
 
@@ -41,12 +41,12 @@ class Ground:
 
     def has(self, spot):
         """Whether it has a spot."""
-        _need_spot(spot)
+        need_spot(spot)
         return any([_rectangle_has(one, spot) for one in self.rectangles()])
 
     def moved(self, by):
         """The ground of its spots, each so much further."""
-        _need_spot(by)
+        need_spot(by)
         return _ground_by(moved_slabs(self._slabs, by))
 
     def slabs(self):
@@ -115,11 +115,6 @@ def _joined(ground, other, word):
     if not isinstance(other, Ground):
         raise OutOfPlace("no ground")
     return _ground_by(joined_slabs(ground.slabs(), other.slabs(), word))
-
-
-def _need_spot(spot):
-    if not is_spot(spot):
-        raise OutOfPlace("no spot")
 
 
 def _rectangle_has(rectangle, spot):

@@ -1,6 +1,6 @@
 """Loops of level and upright edges, and outlines whose corners are places."""
 
-from panelworks.errors import BadOutline, NoPoint
+from panelworks.errors import BadOutline, NoPoint, OutOfPlace
 from panelworks.fractions import compared, is_fraction, is_under, less, over, range_of, times, total
 from panelworks.sayings import need_places
 from panelworks.words import MOST_RING, is_name
@@ -104,6 +104,12 @@ def loop_length(loop):
 def is_spot(thing):
     """Whether it is a pair of fractions."""
     return isinstance(thing, tuple) and len(thing) == 2 and is_fraction(thing[0]) and is_fraction(thing[1])
+
+
+def need_spot(spot):
+    """Refuse what is no spot."""
+    if not is_spot(spot):
+        raise OutOfPlace("no spot")
 
 
 def spot_is_under(one, other):

@@ -1,29 +1,29 @@
 """On which side of a fair loop a spot is, and papers that show it."""
 
-from panelworks.errors import BadPaper, OutOfPlace
+from panelworks.errors import BadPaper
 from panelworks.fractions import compared, is_under
-from panelworks.outlines import box_of, is_spot, need_loop, plain_edges
+from panelworks.outlines import box_of, need_loop, need_spot, plain_edges
 from panelworks.words import is_whole
 
 
 def side_of(loop, spot):
     """Whether a spot is in a fair loop, on its edge or out."""
     need_loop(loop)
-    _need_spot(spot)
+    need_spot(spot)
     return _side_shown(plain_side_paper(plain_edges(loop), spot))
 
 
 def side_paper(loop, spot):
     """A paper that shows on which side of a fair loop a spot is."""
     need_loop(loop)
-    _need_spot(spot)
+    need_spot(spot)
     return plain_side_paper(plain_edges(loop), spot)
 
 
 def check_side(loop, spot, paper):
     """The side that a paper shows; refuse one that doesn't come out."""
     need_loop(loop)
-    _need_spot(spot)
+    need_spot(spot)
     _need_form(paper)
     edges = plain_edges(loop)
     found = first_edge_with(edges, spot)
@@ -64,11 +64,6 @@ def edges_left(edges, spot):
             if compared(low, spot[1]) < 1 and is_under(spot[1], high):
                 found.append(number)
     return found
-
-
-def _need_spot(spot):
-    if not is_spot(spot):
-        raise OutOfPlace("no spot")
 
 
 def _is_between(one, bounds):
