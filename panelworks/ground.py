@@ -1,8 +1,9 @@
 """Ground: all that some rectangles have, told in one way."""
 
 from panelworks.errors import OutOfPlace
-from panelworks.fractions import compared, fraction_text, in_order, is_fraction, is_under
+from panelworks.fractions import compared, fraction_text, in_order, is_under
 from panelworks.outlines import box_of, need_loop, need_spot, plain_edges
+from panelworks.rectangles import is_rectangle
 from panelworks.runs import area_of, border_of, islands_of, joined_slabs, moved_slabs, neat_slabs, pairs_of
 from panelworks.runs import rectangles_of, slabs_of
 
@@ -95,13 +96,6 @@ def ground_of(loop):
         # By turns these heights lead into the loop and out of it.
         rows.append((left, right, pairs_of(_heights_from(edges, left))))
     return _ground_by(neat_slabs(rows))
-
-
-def is_rectangle(thing):
-    """Whether it is a rectangle with some ground."""
-    if not isinstance(thing, tuple) or len(thing) != 4 or not all([is_fraction(one) for one in thing]):
-        return False
-    return is_under(thing[0], thing[2]) and is_under(thing[1], thing[3])
 
 
 def _ground_by(slabs):

@@ -20,5 +20,7 @@ def groups_of(many, links):
 
 def _root(leads, number):
     while leads[number] != number:
+        # What is passed is led further on, so that no way stays long.
+        leads[number] = leads[leads[number]]
         number = leads[number]
     return number

@@ -10,17 +10,9 @@ LEAST_RING = 4
 
 def need_loop(loop):
     """The loop itself; refuse what is no fair one."""
-    if not isinstance(loop, tuple) or not _may_be_ring(len(loop)):
-        raise BadOutline(None)
-    if not all([is_spot(spot) for spot in loop]):
-        raise BadOutline(None)
-    edges = plain_edges(loop)
-    need_turning(edges)
-    boxes = [box_of(edge) for edge in edges]
-    for number in range(len(edges)):
-        for other in range(number + 1, len(edges)):
-            if not are_neighbours(number, other, len(edges)) and have_common(boxes[number], boxes[other]):
-                raise BadOutline(number)
+    touching = first_common(need_ring(loop))
+    if touching is not None:
+        raise BadOutline(touching[0])
     return loop
 
 
@@ -131,13 +123,29 @@ def plain_edges(loop):
     return [(_kind_of(start, end), start, end) for start, end in zip(loop, loop[1:] + loop[:1])]
 
 
-def need_turning(edges):
-    """Refuse edges that aren't level and upright in turn, each of some length."""
+def need_ring(loop):
+    """The edges of a loop, level and upright in turn, each of some length; refuse what has none such."""
+    if not isinstance(loop, tuple) or not _may_be_ring(len(loop)):
+        raise BadOutline(None)
+    if not all([is_spot(spot) for spot in loop]):
+        raise BadOutline(None)
+    edges = plain_edges(loop)
     ahead = None
     for number, (kind, _, _) in enumerate(edges):
         if kind is None or kind == ahead:
             raise BadOutline(number)
         ahead = kind
+    return edges
+
+
+def first_common(edges):
+    """The numbers of the first two edges that are no neighbours and have a spot in common, None without them."""
+    boxes = [box_of(edge) for edge in edges]
+    for number in range(len(edges)):
+        for other in range(number + 1, len(edges)):
+            if not are_neighbours(number, other, len(edges)) and have_common(boxes[number], boxes[other]):
+                return (number, other)
+    return None
 
 
 def are_neighbours(one, other, many):

@@ -122,8 +122,8 @@ def saying_from(chance, names, numbers=5):
 
 
 def spots(*numbers):
-    """A loop of whole numbers: x, y, x, y and so on."""
-    return tuple((whole(x), whole(y)) for x, y in zip(numbers[::2], numbers[1::2]))
+    """A loop of numbers, fractions as texts: x, y, x, y and so on."""
+    return tuple((pair(x), pair(y)) for x, y in zip(numbers[::2], numbers[1::2]))
 
 
 def rising(chance, many):
@@ -136,25 +136,30 @@ def rising(chance, many):
 
 def loop_from(chance, wide=4):
     """A fair loop by chance: (loop, cells, xs, ys), cells being those of a grid that lie within it."""
+    xs, ys = rising(chance, wide + 1), rising(chance, wide + 1)
+    return loop_on(chance, xs, ys) + (xs, ys)
+
+
+def loop_on(chance, xs, ys):
+    """A fair loop by chance whose corners lie on these lines: (loop, cells)."""
     while True:
-        cells = _grown(chance, wide)
+        cells = _grown(chance, len(xs) - 1, len(ys) - 1)
         corners = _walked_round(cells)
         if corners is not None and len(corners) <= 12:
             break
-    xs, ys = rising(chance, wide + 1), rising(chance, wide + 1)
     loop = tuple((xs[x], ys[y]) for x, y in corners)
     start = chance.randrange(len(loop))
     loop = loop[start:] + loop[:start]
-    return (loop if chance.random() < 0.5 else loop[::-1]), cells, xs, ys
+    return (loop if chance.random() < 0.5 else loop[::-1]), cells
 
 
-def _grown(chance, wide):
-    cells = {(chance.randrange(wide), chance.randrange(wide))}
-    for _ in range(chance.randint(0, wide * wide)):
+def _grown(chance, wide, long):
+    cells = {(chance.randrange(wide), chance.randrange(long))}
+    for _ in range(chance.randint(0, wide * long)):
         x, y = chance.choice(sorted(cells))
         step = chance.choice([(1, 0), (-1, 0), (0, 1), (0, -1)])
         found = (x + step[0], y + step[1])
-        if 0 <= found[0] < wide and 0 <= found[1] < wide:
+        if 0 <= found[0] < wide and 0 <= found[1] < long:
             cells.add(found)
     return cells
 
@@ -189,3 +194,100 @@ def _is_between(before, behind):
 def lowest(top, bottom):
     shared = gcd(top, bottom)
     return (top // shared, bottom // shared)
+
+
+NODES = ("a", "b", "c", "d", "e", "f", "g", "h", "i", "j", "k", "l")
+
+
+class Body:
+    """A body by chance, and what is known of it by itself: a grid of 12 places with outlines on it."""
+
+    def __init__(self, chance, many=None, whole_ones=False):
+        self.block = (chance.randint(1, 4), chance.randint(1, 4), chance.randint(1, 6))
+        size = chance.choice([(4, 3), (3, 4), (6, 2), (2, 6)])
+        self.xs = self._lines(chance, size[0], self.block[0], whole_ones)
+        self.ys = self._lines(chance, size[1], self.block[1], whole_ones)
+        names = list(NODES)
+        chance.shuffle(names)
+        nodes = [(pair(x), pair(y)) for x in self.xs for y in self.ys]
+        self.places = tuple((name,) + node for name, node in zip(names, nodes))
+        named = dict(zip(nodes, names))
+        self.features = ()
+        # Of each feature the rectangles that it covers, and its height; its corners.
+        self.covers, self.corners = [], []
+        for _ in range(chance.randint(0, 5) if many is None else many):
+            loop, cells = loop_on(chance, [pair(x) for x in self.xs], [pair(y) for y in self.ys])
+            height = chance.randint(0, self.block[2])
+            self.features += ((tuple(named[one] for one in loop), height),)
+            xs, ys = self.xs, self.ys
+            self.covers.append(([(xs[x], ys[y], xs[x + 1], ys[y + 1]) for x, y in cells], height))
+            self.corners += [(plain(x), plain(y)) for x, y in loop]
+
+    def _lines(self, chance, many, most, whole_ones):
+        bottoms = [1] if whole_ones else [1, 2, 3]
+        found = set()
+        while len(found) < many:
+            bottom = chance.choice(bottoms)
+            found.add(Fraction(chance.randint(-bottom - 1, (most + 1) * bottom + 1), bottom))
+        return sorted(found)
+
+    def things(self):
+        return self.block, self.features, self.places
+
+    def height_in(self, x, y):
+        """The height at a point that lies on no edge of an outline; it may lie between two cells of one."""
+        found = self.block[2]
+        for rectangles, height in self.covers:
+            if any(x0 <= x < x1 and y0 <= y < y1 for x0, y0, x1, y1 in rectangles):
+                found = height
+        return found
+
+    def lines(self):
+        found = []
+        for axis in range(2):
+            corners = {corner[axis] for corner in self.corners if 0 <= corner[axis] <= self.block[axis]}
+            found.append(sorted(corners | {Fraction(k) for k in range(self.block[axis] + 1)}))
+        return found
+
+    def pieces(self):
+        """All pieces, of Fractions, in their order."""
+        xs, ys = self.lines()
+        found = []
+        for low, top in zip(ys, ys[1:]):
+            for left, right in zip(xs, xs[1:]):
+                found.append((left, low, right, top, self.height_in((left + right) / 2, (low + top) / 2)))
+        return found
+
+
+# What is no field, with the place that is told of it.
+NO_FIELDS = [(thing, None) for thing in ODD_THINGS if thing != (None, None)]
+NO_FIELDS += [((2, ((1,),), 1), None), ([2, ((1,),)], None), ((2,), None)]
+NO_FIELDS += [((thing, ((0,),)), "high") for thing in (0, 7, -1, True, None, "1", 1.0, (1,))]
+NO_FIELDS += [((None, None), "high"), ((0, None), "high"), ((True, ()), "high")]
+NO_FIELDS += [((2, thing), "rows") for thing in (None, 1, (), [], [(1,)], "ab", {}, ((1,),) * 9)]
+NO_FIELDS += [
+    ((2, ((3,),)), 0),
+    ((2, ((-1,),)), 0),
+    ((2, ((True,),)), 0),
+    ((2, ((None,),)), 0),
+    ((2, ((),)), 0),
+    ((2, ([1],)), 0),
+    ((2, ("1",)), 0),
+    ((2, (1,)), 0),
+    ((2, ((0,) * 9,)), 0),
+    ((2, ((0, 1), (0, 1), (0,))), 2),
+    ((2, ((0, 1), (0, 1, 1), (0,))), 1),
+    ((2, ((0,), (0, 1), (0, 1))), 1),
+    ((2, ((0, 1), (0, 3), (0, -1))), 1),
+    ((2, ((0, 1), (0, 1), [0, 1], ())), 2),
+    ((2, ((0, 1), (0, 1.0))), 1),
+    ((6, ((0,),) * 7 + (None,)), 7),
+]
+
+
+def field_from(chance, most=8, high=None):
+    """A field by chance, often with large level parts."""
+    high = high or chance.randint(1, 6)
+    wide, long = chance.randint(1, most), chance.randint(1, most)
+    some = [chance.randint(0, high) for _ in range(chance.randint(1, 5))]
+    return (high, tuple(tuple(chance.choice(some) for _ in range(wide)) for _ in range(long)))

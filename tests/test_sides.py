@@ -87,7 +87,7 @@ class Sides(unittest.TestCase):
                 paper = side_paper(loop, there)
                 self.assertEqual(check_side(loop, there, paper), word)
                 self.right(loop, there, paper)
-        self.assertGreater(min(found.count(word) for word in ("in", "out", "edge")), 200)
+        self.assertGreater(min(found.count(word) for word in ("in", "out", "edge")), 150)
 
     def some_spots(self, chance, xs, ys):
         found = []
