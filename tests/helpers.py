@@ -291,3 +291,97 @@ def field_from(chance, most=8, high=None):
     wide, long = chance.randint(1, most), chance.randint(1, most)
     some = [chance.randint(0, high) for _ in range(chance.randint(1, 5))]
     return (high, tuple(tuple(chance.choice(some) for _ in range(wide)) for _ in range(long)))
+
+
+# What is no tool, no tools: with the number that is told of the latter.
+NO_TOOLS = ODD_THINGS + (
+    (0, 1),
+    (1, 0),
+    (5, 1),
+    (1, 7),
+    (-1, 1),
+    (True, 1),
+    (1, True),
+    (1.0, 1),
+    [1, 1],
+    (1, 1, 1),
+    ("1", 1),
+    (1, None),
+)
+
+
+def tools_from(chance, many=None):
+    """None to four unlike tools by chance."""
+    kinds = [(side, length) for side in range(1, 5) for length in range(1, 7)]
+    return tuple(chance.sample(kinds, chance.randint(0, 4) if many is None else many))
+
+
+def cells_of(field):
+    return [(i, j) for i in range(len(field[1][0])) for j in range(len(field[1]))]
+
+
+def at(field, cell):
+    return field[1][cell[1]][cell[0]]
+
+
+def under(field, tool, place):
+    """The cells under a tool at a place, by looking at each cell."""
+    return [(i, j) for i, j in cells_of(field) if 0 <= i - place[0] < tool[0] and 0 <= j - place[1] < tool[0]]
+
+
+def ring(field, tool, place):
+    """The cells that aren't under a tool at a place, and no further than one from one that is."""
+    mine = under(field, tool, place)
+    beside = {(i + x, j + y) for i, j in mine for x in (-1, 0, 1) for y in (-1, 0, 1)}
+    return [cell for cell in cells_of(field) if cell in beside and cell not in mine]
+
+
+def places(field, tool):
+    """All places of a tool: all from which a cell comes to lie under it."""
+    around = [(i, j) for i in range(-6, 12) for j in range(-6, 12)]
+    return [place for place in around if under(field, tool, place)]
+
+
+def stands_well(field, stock, tool, place, height):
+    """Whether a tool may stand there, straight by the words of the document."""
+    if any(at(field, cell) > height for cell in under(field, tool, place)):
+        return False
+    return not any(at(stock, cell) > height + tool[1] for cell in ring(field, tool, place))
+
+
+def lowered(stock, tool, place, height):
+    """The stock behind a stand."""
+    below = under(stock, tool, place)
+    rows = [
+        tuple(min(one, height) if (i, j) in below else one for i, one in enumerate(row)) for j, row in enumerate(stock[1])
+    ]
+    return (stock[0], tuple(rows))
+
+
+def least_stock(field, tools):
+    """What tools reach: all stands that may be, one row after the other, till none changes anything."""
+    high = field[0]
+    stock = {cell: high for cell in cells_of(field)}
+    seats = [(tool, under(field, tool, place), ring(field, tool, place)) for tool in tools for place in places(field, tool)]
+    ahead = None
+    while ahead != stock:
+        ahead = dict(stock)
+        for tool, below, around in seats:
+            for height in range(high, -1, -1):
+                if any(at(field, cell) > height for cell in below) or any(stock[cell] > height + tool[1] for cell in around):
+                    break
+                for cell in below:
+                    stock[cell] = min(stock[cell], height)
+    return (high, tuple(tuple(stock[i, j] for i in range(len(row))) for j, row in enumerate(field[1])))
+
+
+def pits_from(chance):
+    """A plate with square pits, deep ones that are wide and shallow ones that are narrow."""
+    wide, long, high = chance.randint(3, 5), chance.randint(3, 5), chance.randint(4, 6)
+    rows = [[high] * wide for _ in range(long)]
+    for _ in range(chance.randint(1, 4)):
+        side = chance.randint(1, 3)
+        i, j, depth = chance.randrange(wide), chance.randrange(long), min(high, side + chance.randint(0, 2))
+        for row in rows[j:j + side]:
+            row[i:i + side] = [high - depth] * len(row[i:i + side])
+    return (high, tuple(tuple(row) for row in rows))
