@@ -53,16 +53,15 @@ def _parts_and_holes(high):
 
 
 def _links_between(cells, wide):
-    """The numbers of each two cells in touch: along a side, those that aren't high at a corner, too."""
+    """The numbers of each two cells in touch: along a side, those that aren't high at a corner, too.
+
+    Where one row ends and the next begins all cells are outside, so that it does no harm to link them.
+    """
     links = []
     for number in range(len(cells)):
-        beside = [number + wide]
-        if number % wide > 0:
-            beside.append(number - 1)
-            if not cells[number]:
-                beside.append(number + wide - 1)
-        if number % wide < wide - 1 and not cells[number]:
-            beside.append(number + wide + 1)
+        beside = [number + 1, number + wide]
+        if not cells[number]:
+            beside.extend([number + wide - 1, number + wide + 1])
         for other in beside:
             if other < len(cells) and cells[other] == cells[number]:
                 links.append((number, other))

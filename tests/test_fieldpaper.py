@@ -130,6 +130,15 @@ class Papers(unittest.TestCase):
         shown = check_field((3, 3, 2), features, places, made)
         self.assertEqual(shown, ((2, ((2, 2, 2), (2, 2, 2), (2, 1, 1))), (2, ((2, 2, 2), (2, 2, 2), (1, 1, 1)))))
 
+    def test_a_comb(self):
+        # Left of its last tooth there are five edges, left of each gap an even number.
+        spots = zip("abcdefghijkl", (0, 5, 5, 4, 4, 3, 3, 2, 2, 1, 1, 0), (0, 0, 2, 2, 1, 1, 2, 2, 1, 1, 2, 2))
+        places = tuple(point(*one) for one in spots)
+        features = ((tuple("abcdefghijkl"), 1),)
+        shown = (2, ((1, 1, 1, 1, 1), (1, 2, 1, 2, 1)))
+        told = field_paper((5, 2, 2), features, places)
+        self.assertEqual(check_field((5, 2, 2), features, places, told), (shown, shown))
+
     def test_a_hidden_edge_counts(self):
         features = FEATURES + ((("e", "f", "g", "h"), 3),)
         places = PLACES + tuple(point(name, x, y) for name, x, y in zip("efgh", (0, 2, 2, 0), (0, 0, 2, 2)))
@@ -168,6 +177,11 @@ class Spoilt(unittest.TestCase):
             (left, box("1/2", "-1/2", 1, 1)),
             (left, box("1/2", 0, 1, "3/2")),
             (left, box(1, 0, "3/2", 1)),
+            # One moved over the border so that areas sum to one, and none is over another one.
+            (left, box("1/2", "1/2", 1, "3/2")),
+            (left, box("1/2", "-1/2", 1, "1/2")),
+            (left, box("3/4", 0, "5/4", 1)),
+            (box("-1/4", 0, "1/4", 1), right),
             # One moved so that areas sum to one, over one another.
             (left, box("1/2", 0, 1, "1/2"), box("1/2", "1/4", 1, "3/4")),
             (left, box("1/2", 0, 1, "3/4"), box("1/2", "1/4", 1, "1/2")),

@@ -195,6 +195,7 @@ class Spoilt(unittest.TestCase):
             (row[0], row[1], None),
         )
         wrong += tuple(((1, 1), (ROWS[0], other) + ROWS[2:]) for other in others)
+        wrong += tuple(((1, 1), ((tool,) + ROWS[0][1:],) + ROWS[1:]) for tool in ((True, 1), (1, True), [1, 1], None))
         # The ring of the short one: only what stands so much higher forbids.
         wrong += (((1, 1), (ROWS[0][:2] + ((1, 1),),) + ROWS[1:]),)
         for thing in wrong:

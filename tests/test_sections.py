@@ -76,6 +76,8 @@ class Sections(unittest.TestCase):
         # Two holes that meet at a corner are one; a third by itself.
         features, places = drawn((1, 1, 2, 2, 0), (2, 2, 3, 3, 0))
         self.assertEqual(section((4, 4, 2), features, places, 1), (whole(14), whole(24), 1, 1))
+        features, places = drawn((2, 1, 3, 2, 0), (1, 2, 2, 3, 0))
+        self.assertEqual(section((4, 4, 2), features, places, 1), (whole(14), whole(24), 1, 1))
         features, places = drawn((1, 1, 2, 2, 0), (3, 3, 4, 4, 0))
         self.assertEqual(section((5, 5, 2), features, places, 1), (whole(23), whole(28), 1, 2))
         # In touch with what is outside at its corner by the corner of a low piece there.
@@ -85,7 +87,9 @@ class Sections(unittest.TestCase):
     def test_parts_that_meet_at_corners_alone(self):
         features, places = drawn((0, 0, 4, 4, 0), (0, 0, 2, 2, 1), (2, 2, 4, 4, 1))
         self.assertEqual(section((4, 4, 1), features, places, 0), (whole(8), whole(16), 2, 0))
-        # A ring of four that meet at corners alone closes nothing in.
+        features, places = drawn((0, 0, 4, 4, 0), (2, 0, 4, 2, 1), (0, 2, 2, 4, 1))
+        self.assertEqual(section((4, 4, 1), features, places, 0), (whole(8), whole(16), 2, 0))
+        # Two that don't meet at all.
         features, places = drawn((0, 0, 3, 3, 0), (1, 0, 2, 1, 1), (1, 2, 2, 3, 1))
         self.assertEqual(section((3, 3, 1), features, places, 0), (whole(2), whole(8), 2, 0))
 
