@@ -352,9 +352,9 @@ def stands_well(field, stock, tool, place, height):
 def lowered(stock, tool, place, height):
     """The stock behind a stand."""
     below = under(stock, tool, place)
-    rows = [
-        tuple(min(one, height) if (i, j) in below else one for i, one in enumerate(row)) for j, row in enumerate(stock[1])
-    ]
+    rows = []
+    for j, row in enumerate(stock[1]):
+        rows.append(tuple(min(one, height) if (i, j) in below else one for i, one in enumerate(row)))
     return (stock[0], tuple(rows))
 
 
@@ -362,13 +362,18 @@ def least_stock(field, tools):
     """What tools reach: all stands that may be, one row after the other, till none changes anything."""
     high = field[0]
     stock = {cell: high for cell in cells_of(field)}
-    seats = [(tool, under(field, tool, place), ring(field, tool, place)) for tool in tools for place in places(field, tool)]
+    seats = []
+    for tool in tools:
+        for place in places(field, tool):
+            seats.append((tool, under(field, tool, place), ring(field, tool, place)))
     ahead = None
     while ahead != stock:
         ahead = dict(stock)
         for tool, below, around in seats:
             for height in range(high, -1, -1):
-                if any(at(field, cell) > height for cell in below) or any(stock[cell] > height + tool[1] for cell in around):
+                if any(at(field, cell) > height for cell in below):
+                    break
+                if any(stock[cell] > height + tool[1] for cell in around):
                     break
                 for cell in below:
                     stock[cell] = min(stock[cell], height)

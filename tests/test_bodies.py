@@ -172,7 +172,8 @@ class Pieces(unittest.TestCase):
             self.assertEqual(volume(BLOCK, ((INNER, 0),), places), whole(24))
         # Corners between the borders of one axis alone give lines along that one.
         places = tuple(point(name, x, y) for name, x, y in zip("abcd", ("1/2", 2, 2, "1/2"), (-3, -3, -2, -2)))
-        self.assertEqual(lines_of(BLOCK, ((INNER, 0),), places), (fractions(0, "1/2", 1, 2, 3, 4), fractions(0, 1, 2, 3)))
+        wanted = (fractions(0, "1/2", 1, 2, 3, 4), fractions(0, 1, 2, 3))
+        self.assertEqual(lines_of(BLOCK, ((INNER, 0),), places), wanted)
 
     def test_lines_of_places_that_no_feature_has(self):
         self.assertEqual(lines_of(BLOCK, ((INNER, 0),), PLACES), (fractions(0, 1, 2, 3, 4), fractions(0, 1, 2, 3)))

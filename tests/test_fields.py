@@ -38,8 +38,8 @@ class Fields(unittest.TestCase):
         for i in range(4):
             self.assertEqual(cell_of(FIELD, (i, 0)), i)
             self.assertEqual(cell_of(field=FIELD, cell=(i, 1)), 3 - i)
-        wrong = ((4, 0), (0, 2), (-1, 0), (0, -1), (0, 0, 0), [0, 0], (True, 0), (0, False), (0, None), ("0", 0), (1.0, 0))
-        for cell in wrong + ODD_THINGS:
+        wrong = ((4, 0), (0, 2), (-1, 0), (0, -1), (0, 0, 0), [0, 0], (True, 0), (0, False), (0, None), ("0", 0))
+        for cell in wrong + ((1.0, 0),) + ODD_THINGS:
             refusal(self, OutOfPlace, cell_of, FIELD, cell)
 
 

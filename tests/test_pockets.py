@@ -176,7 +176,8 @@ class Spoilt(unittest.TestCase):
         self.assertEqual(refusal(self, BadPaper, check_meeting, self.ROW, one, other, paper).place, place)
 
     def test_form(self):
-        for thing in ODD_THINGS + ((self.WAY,), (self.WAY, (), ()), [self.WAY, ()], (list(self.WAY), ()), (self.WAY, [])):
+        wrong = ((self.WAY,), (self.WAY, (), ()), [self.WAY, ()], (list(self.WAY), ()), (self.WAY, []))
+        for thing in ODD_THINGS + wrong:
             self.refused(thing, None)
             self.refused((thing, thing) if not isinstance(thing, tuple) else (None, thing), None)
 
