@@ -38,7 +38,8 @@ def is_step(thing):
 
 def first_state(field):
     """The state of the machine ahead of all steps."""
-    return ((), 0, 0, _high_of(field), solid(field))
+    stock = solid(field)
+    return ((), 0, 0, stock[0], stock)
 
 
 def is_state(field, thing):
@@ -49,7 +50,7 @@ def is_state(field, thing):
     tool, i, j, height, stock = thing
     if not is_field(stock) or stock[0] != field[0] or plain_sides(stock) != plain_sides(field):
         return False
-    if tool == ():
+    if isinstance(tool, tuple) and len(tool) == 0:
         return is_among(i, 0, 0) and is_among(j, 0, 0) and is_among(height, field[0], field[0])
     if not is_tool(tool) or not is_place_of(plain_sides(field), tool, (i, j)):
         return False
@@ -91,11 +92,6 @@ def need_depth(depth):
     """Refuse what is no depth."""
     if not is_among(depth, 1, MOST_HIGH):
         raise OutOfPlace("no depth")
-
-
-def _high_of(field):
-    need_field(field)
-    return field[0]
 
 
 def _need_sense(state, step):
