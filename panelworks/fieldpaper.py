@@ -1,6 +1,6 @@
 """The fields of a body, papers that show them, and their looker."""
 
-from panelworks.bodies import loops_of, rows_of_pieces
+from panelworks.bodies import loops_of, pieces_of
 from panelworks.errors import BadPaper
 from panelworks.fields import square_of
 from panelworks.fractions import floor_of, is_under, total
@@ -12,14 +12,13 @@ from panelworks.sides import edges_left
 
 def fields_of(block, features, places):
     """The target field of a body, and its least field."""
-    cells = _pieces_by_cells(block, rows_of_pieces(block, features, places))
-    return _fields_by(block, [[piece[4] for piece in pieces] for pieces in cells])
+    return fields_by_pieces(block, pieces_of(block, features, places))
 
 
 def field_paper(block, features, places):
     """A paper that shows both fields: the pieces in each cell."""
-    cells = _pieces_by_cells(block, rows_of_pieces(block, features, places))
-    return tuple([tuple([piece[:4] for piece in pieces]) for pieces in cells])
+    cells = _pieces_by_cells(block, pieces_of(block, features, places))
+    return tuple([tuple([piece[:4] for piece in some]) for some in cells])
 
 
 def check_field(block, features, places, paper):
@@ -35,12 +34,16 @@ def check_field(block, features, places, paper):
     return _fields_by(block, [[_height_of(block, outlines, tile) for tile in tiles] for tiles in paper])
 
 
-def _pieces_by_cells(block, rows):
+def fields_by_pieces(block, pieces):
+    """Both fields of the body of a block that has these pieces."""
+    return _fields_by(block, [[piece[4] for piece in some] for some in _pieces_by_cells(block, pieces)])
+
+
+def _pieces_by_cells(block, pieces):
     """The pieces within each cell, cell by cell as a field's rows have them."""
     cells = [[] for _ in range(block[0] * block[1])]
-    for row in rows:
-        for piece in row:
-            cells[floor_of(piece[1]) * block[0] + floor_of(piece[0])].append(piece)
+    for piece in pieces:
+        cells[floor_of(piece[1]) * block[0] + floor_of(piece[0])].append(piece)
     return cells
 
 

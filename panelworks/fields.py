@@ -105,6 +105,11 @@ def heights_of(field):
     return {cell: height_of(field, cell) for cell in cells_of(field)}
 
 
+def is_nowhere_below(field, other):
+    """Whether no cell of a field is lower than in another one of like sides."""
+    return all([height_of(field, cell) >= height_of(other, cell) for cell in cells_of(field)])
+
+
 def field_by(field, heights):
     """A field as high, wide and long as another one, of these heights by their cells."""
     wide, long = plain_sides(field)
@@ -119,6 +124,10 @@ def square_of(cell):
 
 def beside(field, cell):
     """The cells in touch with a cell along a side, rising."""
+    return [other for other in neighbours(cell) if is_cell(field, other)]
+
+
+def neighbours(cell):
+    """The four cells or places that are one from a cell or place along an axis, rising."""
     i, j = cell
-    found = [(i + by, j + up) for by, up in SIDES]
-    return [other for other in found if is_cell(field, other)]
+    return [(i + by, j + up) for by, up in SIDES]

@@ -28,15 +28,20 @@ def is_fair(loop):
 def loop_of(places, names):
     """The loop of the places of these names, fair or not."""
     need_places(places)
-    if not isinstance(names, tuple) or not _may_be_ring(len(names)):
-        raise BadOutline(None)
-    if not all([is_name(name) for name in names]) or len(set(names)) != len(names):
+    if not are_corners(names) or not _may_be_ring(len(names)):
         raise BadOutline(None)
     spots = {name: (x, y) for name, x, y in places}
     for name in names:
         if name not in spots:
             raise NoPoint(name)
     return tuple([spots[name] for name in names])
+
+
+def are_corners(thing):
+    """Whether it is a tuple of four to twelve unlike names, perhaps of an odd number, of which no loop is made."""
+    if not isinstance(thing, tuple) or not LEAST_RING <= len(thing) <= MOST_RING:
+        return False
+    return all([is_name(name) for name in thing]) and len(set(thing)) == len(thing)
 
 
 def need_outline(places, names):

@@ -1,6 +1,7 @@
 """Points, what is said of them, and the rows of numbers by which a saying is looked at."""
 
 from panelworks.errors import BadSketch, OutOfPlace
+from panelworks.forms import are_of, word_of
 from panelworks.fractions import is_fraction, times, total
 from panelworks.words import MOST_NUMBER, MOST_PLACED, MOST_POINTS, MOST_RATIO, MOST_SAYINGS, MOST_UNDER
 from panelworks.words import is_among, is_name
@@ -61,15 +62,18 @@ def need_saying(places, saying):
 
 def is_saying(names, thing):
     """Whether it is a saying about points of these names."""
-    if not isinstance(thing, tuple) or len(thing) == 0:
-        return False
-    word = thing[0]
-    if not isinstance(word, str) or word not in SAYING_FORMS:
-        return False
-    form = SAYING_FORMS[word]
-    if len(thing) != 1 + len(form):
-        return False
-    return all([_fits(kind, part, names) for kind, part in zip(form, thing[1:])])
+    return has_saying_form(thing) and all([name in names for name in names_in(thing)])
+
+
+def has_saying_form(thing):
+    """Whether it is a saying by its form, about points of whatever names."""
+    word = word_of(thing)
+    return word in SAYING_FORMS and are_of(SAYING_FORMS[word], thing[1:], _fits)
+
+
+def names_in(saying):
+    """The names of points in a saying, as they stand in it."""
+    return [part for kind, part in zip(SAYING_FORMS[saying[0]], saying[1:]) if kind == "point"]
 
 
 def is_place(thing):
@@ -77,6 +81,16 @@ def is_place(thing):
     if not isinstance(thing, tuple) or len(thing) != 3:
         return False
     return is_name(thing[0]) and is_fraction(thing[1]) and is_fraction(thing[2])
+
+
+def is_close(one):
+    """Whether a fraction is one that a point may have."""
+    return abs(one[0]) <= MOST_PLACED and one[1] <= MOST_UNDER
+
+
+def is_axis(thing):
+    """Whether it is one of the two axes."""
+    return isinstance(thing, str) and thing in AXES
 
 
 def names_of(places):
@@ -126,21 +140,17 @@ def _need_named(places, close):
     for number, place in enumerate(places):
         if not is_place(place) or place[0] in names:
             raise BadSketch("points", number)
-        if close and not (_is_close(place[1]) and _is_close(place[2])):
+        if close and not (is_close(place[1]) and is_close(place[2])):
             raise BadSketch("points", number)
         names.append(place[0])
 
 
-def _is_close(one):
-    return abs(one[0]) <= MOST_PLACED and one[1] <= MOST_UNDER
-
-
-def _fits(kind, part, names):
+def _fits(kind, part):
     """Whether a part of a saying is of the kind that is due there."""
     if kind == "point":
-        return is_name(part) and part in names
+        return is_name(part)
     if kind == "axis":
-        return isinstance(part, str) and part in AXES
+        return is_axis(part)
     if kind == "number":
         return is_among(part, -MOST_NUMBER, MOST_NUMBER)
     return is_among(part, 1, MOST_RATIO)

@@ -27,6 +27,10 @@ class Seat:
         """The cells under it that stand above a height."""
         return [cell for cell in self.under if heights[cell] > height]
 
+    def is_useful(self, heights):
+        """Whether anything goes there as low as it may stand."""
+        return len(self.higher_than(heights, self.lowest_by(heights))) > 0
+
 
 def seats_of(field, tools):
     """All tools, in their order, at all their places, rising."""

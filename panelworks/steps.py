@@ -2,7 +2,8 @@
 
 from panelworks.errors import BadWay, Beyond, Blocked, Lifted, Lowered, NoToolThere, OutOfPlace, TooDeep
 from panelworks.fields import field_by, heights_of, is_field, need_field, plain_sides
-from panelworks.tools import first_of_ring, is_place_of, is_tool, plain_under, solid
+from panelworks.forms import are_of, word_of
+from panelworks.tools import first_of_ring, is_place_of, is_tool, need_tools, plain_under, solid
 from panelworks.words import DEPTH, MOST_HIGH, MOST_LENGTH, MOST_SIDE, MOST_TOOL, is_among
 
 # What stands behind the word of each sort of step, one thing after the other.
@@ -25,15 +26,8 @@ PASS_TIME = 1
 
 def is_step(thing):
     """Whether it is a step."""
-    if not isinstance(thing, tuple) or len(thing) == 0:
-        return False
-    word = thing[0]
-    if not isinstance(word, str) or word not in STEP_FORMS:
-        return False
-    form = STEP_FORMS[word]
-    if len(thing) != 1 + len(form):
-        return False
-    return all([fits_step(kind, part) for kind, part in zip(form, thing[1:])])
+    word = word_of(thing)
+    return word in STEP_FORMS and are_of(STEP_FORMS[word], thing[1:], fits_step)
 
 
 def first_state(field):
@@ -75,6 +69,22 @@ def step_done(state, step, *, depth=DEPTH):
         following, taken = _taken_down(stock, tool, (i, j), step[1], depth)
         return ((tool, i, j, step[1], following), DOWN_TIME * (height - step[1]), taken)
     return _cut(state, step, depth)
+
+
+def need_work(field, tools, depth):
+    """Refuse what is no field, what are no tools, and what is no depth."""
+    need_field(field)
+    need_tools(tools)
+    need_depth(depth)
+
+
+def need_way(way):
+    """Refuse what is no tuple of steps."""
+    if not isinstance(way, tuple):
+        raise BadWay(None)
+    for number, step in enumerate(way):
+        if not is_step(step):
+            raise BadWay(number)
 
 
 def fits_step(kind, part):

@@ -73,6 +73,11 @@ def is_tool(thing):
     return is_among(thing[0], 1, MOST_TOOL) and is_among(thing[1], 1, MOST_LENGTH)
 
 
+def by_size(tools):
+    """Tools with their sides falling, of like ones their lengths falling."""
+    return sorted(tools, reverse=True)
+
+
 def need_tool(tool):
     """Refuse what is no tool."""
     if not is_tool(tool):

@@ -1,6 +1,7 @@
 """What the tests have in common: fractions of Python's own, and ways to look at sketches and loops by themselves."""
 
 from fractions import Fraction
+from functools import lru_cache
 from math import gcd
 
 # Things that are no fraction, no tuple of anything, no name and no number.
@@ -326,20 +327,35 @@ def at(field, cell):
 
 def under(field, tool, place):
     """The cells under a tool at a place, by looking at each cell."""
-    return [(i, j) for i, j in cells_of(field) if 0 <= i - place[0] < tool[0] and 0 <= j - place[1] < tool[0]]
+    return list(_under(tuple(cells_of(field)), tool, place))
 
 
 def ring(field, tool, place):
     """The cells that aren't under a tool at a place, and no further than one from one that is."""
-    mine = under(field, tool, place)
-    beside = {(i + x, j + y) for i, j in mine for x in (-1, 0, 1) for y in (-1, 0, 1)}
-    return [cell for cell in cells_of(field) if cell in beside and cell not in mine]
+    return list(_ring(tuple(cells_of(field)), tool, place))
 
 
 def places(field, tool):
     """All places of a tool: all from which a cell comes to lie under it."""
+    return list(_places(tuple(cells_of(field)), tool))
+
+
+@lru_cache(maxsize=None)
+def _under(cells, tool, place):
+    return [(i, j) for i, j in cells if 0 <= i - place[0] < tool[0] and 0 <= j - place[1] < tool[0]]
+
+
+@lru_cache(maxsize=None)
+def _ring(cells, tool, place):
+    mine = _under(cells, tool, place)
+    beside = {(i + x, j + y) for i, j in mine for x in (-1, 0, 1) for y in (-1, 0, 1)}
+    return [cell for cell in cells if cell in beside and cell not in mine]
+
+
+@lru_cache(maxsize=None)
+def _places(cells, tool):
     around = [(i, j) for i in range(-6, 12) for j in range(-6, 12)]
-    return [place for place in around if under(field, tool, place)]
+    return [place for place in around if _under(cells, tool, place)]
 
 
 def stands_well(field, stock, tool, place, height):
@@ -390,3 +406,18 @@ def pits_from(chance):
         for row in rows[j:j + side]:
             row[i:i + side] = [high - depth] * len(row[i:i + side])
     return (high, tuple(tuple(row) for row in rows))
+
+
+def refuses_in_order(case, call, good, wrongs):
+    """Each wrong thing is refused as told, also where what is looked at behind it is wrong, too.
+
+    Wrongs are, in the order in which they are due, (name, [(thing, error, what its fields tell)]).
+    """
+    for number, (name, some) in enumerate(wrongs):
+        behind = wrongs[number + 1:]
+        also = [{}] + [{other: more[0][0]} for other, more in behind]
+        also.append({other: more[-1][0] for other, more in behind})
+        for thing, error, told in some:
+            for others in also:
+                found = refusal(case, error, call, **{**good, **others, name: thing})
+                case.assertEqual(tuple(vars(found).values()), told, (name, thing))

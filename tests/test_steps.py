@@ -17,51 +17,13 @@ from panelworks.errors import (
 from panelworks.steps import first_state, is_state, is_step, step_done
 from panelworks.words import DEPTH
 
-from tests.helpers import NO_FIELDS, NO_TOOLS, ODD_THINGS, at, cells_of, field_from, places, refusal, ring, under
+from tests.helpers import NO_FIELDS, NO_TOOLS, ODD_THINGS, field_from, refusal
+from tests.stepping import NO_STEPS, any_step, by_words
 
 FIELD = (4, ((1,) * 5,) * 4)
 SOLID = (4, ((4,) * 5,) * 4)
 FIRST = ((), 0, 0, 4, SOLID)
 STEPS = (("tool", 1, 1), ("go", 1, 1), ("down", 3), ("cut", 2, 1), ("up",))
-NO_STEPS = ODD_THINGS + (
-    ("tool", 0, 1),
-    ("tool", 5, 1),
-    ("tool", 1, 0),
-    ("tool", 1, 7),
-    ("tool", 1),
-    ("tool", 1, 1, 1),
-    ("tool", True, 1),
-    ("tool", (1, 1)),
-    ("go", -4, 0),
-    ("go", 8, 0),
-    ("go", 0, -4),
-    ("go", 0, 8),
-    ("go", 0),
-    ("go", 0, 0, 0),
-    ("go", (0, 0)),
-    ("go", 0, None),
-    ("cut", -4, 0),
-    ("cut", 0, 8),
-    ("cut", "0", 0),
-    ("cut", 0),
-    ("cut", False, 1),
-    ("down", -1),
-    ("down", 6),
-    ("down",),
-    ("down", 1, 1),
-    ("down", 1.0),
-    ("down", True),
-    ("up", 1),
-    ("up", ()),
-    "up",
-    ["up"],
-    ["go", 0, 0],
-    ("Up",),
-    ("left", 1, 1),
-    ((), 0),
-    (["up"],),
-    (1, 2, 3),
-)
 
 
 def stock_with(stock, **heights):
@@ -70,57 +32,6 @@ def stock_with(stock, **heights):
     for name, height in heights.items():
         rows[int(name[2])][int(name[1])] = height
     return (stock[0], tuple(tuple(row) for row in rows))
-
-
-def by_words(state, step, depth):
-    """What a step must come to, straight by the words of the document: a state, or a refusal's class and place."""
-    tool, i, j, height, stock = state
-    word, high = step[0], stock[0]
-    if word != "tool" and tool == ():
-        return NoToolThere, None
-    if word in ("tool", "go") and height != high:
-        return Lowered, None
-    if word in ("cut", "up") and height == high:
-        return Lifted, None
-    if word in ("go", "cut") and step[1:] not in places(stock, tool):
-        return Beyond, step[1:]
-    if word == "tool":
-        return (step[1:], 0, 0, high, stock), 20, 0
-    if word == "up":
-        return (tool, i, j, high, stock), high - height, 0
-    if word == "go":
-        if step[1:] == (i, j):
-            return OutOfPlace, None
-        return (tool,) + step[1:] + (high, stock), abs(step[1] - i) + abs(step[2] - j), 0
-    time = taken = 0
-    if word == "down":
-        if step[1] >= height:
-            return OutOfPlace, None
-        time, height, way = 2 * (height - step[1]), step[1], [(i, j)]
-    else:
-        if (step[1] != i) + (step[2] != j) != 1:
-            return OutOfPlace, None
-        way = []
-        while (i, j) != step[1:]:
-            i, j = i + (step[1] > i) - (step[1] < i), j + (step[2] > j) - (step[2] < j)
-            way.append((i, j))
-    heights = {cell: at(stock, cell) for cell in cells_of(stock)}
-    for place in way:
-        for cell in sorted(ring(stock, tool, place)):
-            if heights[cell] > height + tool[1]:
-                return Blocked, cell
-        gone = 0
-        for cell in sorted(under(stock, tool, place)):
-            if heights[cell] - height > depth:
-                return TooDeep, cell
-        for cell in under(stock, tool, place):
-            gone += max(0, heights[cell] - height)
-            heights[cell] = min(heights[cell], height)
-        taken += gone
-        if word == "cut":
-            time += 3 if gone else 1
-    rows = tuple(tuple(heights[x, y] for x in range(len(row))) for y, row in enumerate(stock[1]))
-    return (tool, i, j, height, (high, rows)), time, taken
 
 
 class Steps(unittest.TestCase):
@@ -295,7 +206,7 @@ class Done(unittest.TestCase):
             field = field_from(chance, most=4)
             state, depth = first_state(field), chance.randint(1, 3)
             for _ in range(60):
-                step = self.any_step(chance, field, state)
+                step = any_step(chance, field, state)
                 wanted = by_words(state, step, depth)
                 if isinstance(wanted[0], tuple):
                     told = step_done(state, step, depth=depth)
@@ -312,21 +223,6 @@ class Done(unittest.TestCase):
         words = "tool go down cut up NoToolThere Lowered Lifted Beyond OutOfPlace Blocked TooDeep".split()
         self.assertEqual(sorted(met), sorted(words))
         self.assertGreater(min(met.values()), 3)
-
-    def any_step(self, chance, field, state):
-        _, i, j, height, _ = state
-        word = chance.choice(("tool", "go", "down", "down", "cut", "cut", "cut", "up"))
-        if word == "tool":
-            return ("tool", chance.randint(1, 4), chance.randint(1, 6))
-        if word == "up":
-            return ("up",)
-        if word == "down":
-            return ("down", min(5, max(0, height - chance.randint(0, 3))))
-        if word == "cut" and chance.random() < 0.9:
-            by = chance.choice((-3, -2, -1, 1, 2, 3))
-            there = chance.choice(((i + by, j), (i, j + by)))
-            return ("cut",) + tuple(min(7, max(-3, one)) for one in there)
-        return (word, chance.randint(-2, len(field[1][0])), chance.randint(-2, len(field[1])))
 
 
 class Refused(unittest.TestCase):
