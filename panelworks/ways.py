@@ -52,8 +52,9 @@ def plain_way(field, tools, *, depth=DEPTH):
 def made_way(field, tools, *, depth=DEPTH):
     """A fit way that takes no more time than the plain one."""
     need_work(field, tools, depth)
-    plain = _without_last_up(plain_steps(field, tools, depth))
-    swept = _without_last_up(swept_steps(field, tools, depth))
+    # What lifts the tool at the end is of no use any more.
+    plain = tuple(plain_steps(field, tools, depth)[:-1])
+    swept = tuple(swept_steps(field, tools, depth)[:-1])
     if time_of(field, swept, depth=depth) < time_of(field, plain, depth=depth):
         return swept
     return plain
@@ -89,10 +90,3 @@ def _done_whole(field, way, depth):
     if len(done) < len(way):
         return None
     return done
-
-
-def _without_last_up(steps):
-    """The steps as a way without the one that does nothing but lift the tool at the end."""
-    if len(steps) == 0:
-        return ()
-    return tuple(steps[:-1])

@@ -181,7 +181,7 @@ class Told(unittest.TestCase):
     def test_edits_of_all_sorts(self):
         chance = random.Random(401)
         for _ in range(25):
-            desk, sheet = Desk(), Sheet((4, 4, 2))
+            desk, sheet, edits = Desk(), Sheet((4, 4, 2)), []
             for _ in range(20):
                 edit = edit_from(chance, sheet)
                 try:
@@ -193,7 +193,10 @@ class Told(unittest.TestCase):
                     ahead, made = sheet.made(), behind.made()
                     wanted = " ".join(["done"] + [word for word in ahead if ahead[word] != made[word]])
                     sheet = behind
+                    # The words of a "many" of one are those of this one.
+                    edits.append(edit[1][0] if edit[0] == "many" and len(edit[1]) == 1 else edit)
                 self.assertEqual(desk.say(edit_text(edit)), wanted)
+                self.assertEqual(desk.work().edits(), edits)
             work = desk.work()
             self.assertEqual((work.points(), work.sayings()), (sheet.points, sheet.sayings))
             self.assertEqual((work.features(), work.tools()), (sheet.features, sheet.tools))
@@ -388,6 +391,10 @@ class Refused(unittest.TestCase):
             " ; ".join(["settle"] * 12 + ["hello"]),
             "none",
             "done",
+            "hello a x",
+            "hello 1 1",
+            "hello at a x 1",
+            "hello level a b x",
             "fixed a x\n",
             "beside level a b x\n",
         ]

@@ -299,6 +299,20 @@ class Runs(unittest.TestCase):
             self.assertEqual(one.log(), singly.log())
             self.assertEqual((one.runs(), singly.runs()), ([(len(way), len(way))], []))
 
+    def test_busy(self):
+        machine, seen = Machine(FIELD), []
+
+        class Spy(tuple):
+            def __len__(self):
+                seen.append(machine.busy())
+                return tuple.__len__(self)
+
+        machine.run([Spy(("tool", 1, 2)), ("down", 2)])
+        self.assertIn(True, seen)
+        self.assertIs(machine.busy(), False)
+        refusal(self, Lowered, machine.run, [Spy(("go", 1, 0))])
+        self.assertIs(machine.busy(), False)
+
     def test_no_run(self):
         machine = Machine(FIELD)
         machine.do(WAY[0])

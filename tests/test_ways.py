@@ -196,6 +196,17 @@ class Fit(unittest.TestCase):
                 self.assertEqual((plain, made), ((), ()))
         self.assertGreater(less, 20)
 
+    def test_a_made_way_where_cuts_take_longer(self):
+        for field, tools, depth in (
+            ((1, ((0, 1, 0, 0), (1, 1, 1, 1), (1, 0, 1, 0), (1, 1, 1, 0))), ((4, 4),), 2),
+            ((4, ((1, 1, 4), (2, 1, 1), (1, 4, 4), (4, 4, 4))), ((1, 1), (1, 6), (1, 2)), 1),
+            ((3, ((1,), (2,), (1,), (3,))), ((1, 6), (1, 5)), 1),
+        ):
+            made = made_way(field, tools, depth=depth)
+            self.assertTrue(fit_by_words(field, tools, made, depth))
+            plain = plain_way(field, tools, depth=depth)
+            self.assertLessEqual(time_of(field, made, depth=depth), time_of(field, plain, depth=depth))
+
     def test_told(self):
         self.assertIs(is_fit(FIELD, TOOLS, WAY), True)
         self.assertIs(is_fit(field=FIELD, tools=((2, 2), (1, 3)), way=WAY, depth=2), True)

@@ -90,6 +90,8 @@ class AtFirst(unittest.TestCase):
         self.assertEqual((work.way(), work.thing(), work.time()), ((), plate, 0))
         self.assertEqual((work.edits(), work.log(), work.busy(), len(work)), ([], [], False, 0))
         self.assertEqual(str(work), "work of 0 points")
+        for call in (work.undo, work.redo, work.copied().redo):
+            refusal(self, Nothing, call)
         self.assertEqual(parts(Work(block=(8, 1, 6), depth=6)), ((8, 1, 6), 6, (), (), (), ()))
         self.assertEqual((file.CHANGES, CHANGES[2]), (("places", "pieces", "target", "least", "reach"), "target"))
 
